@@ -1,0 +1,1 @@
+"""Ledgerloom: a shared workbook."""

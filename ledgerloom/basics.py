@@ -1,0 +1,50 @@
+"""What every module asks of a thing: whether it is an integer, a name or a mark; and its plain copy."""
+
+LETTERS = "abcdefghijklmnopqrstuvwxyz"
+FIGURES = "0123456789"
+
+
+def is_integer(value):
+    """Whether it is an integer; a bool is none here."""
+    return isinstance(value, int) and not isinstance(value, bool)
+
+
+def is_number_to(value, most):
+    """Whether it is an integer from 0 to most."""
+    return is_integer(value) and 0 <= value <= most
+
+
+def is_tuple_of(value, many):
+    """Whether it is a tuple of so many members."""
+    return isinstance(value, tuple) and len(value) == many
+
+
+def is_name(value):
+    """Whether it is a name: 1 to 8 letters from a to z."""
+    if not isinstance(value, str) or not 1 <= len(value) <= 8:
+        return False
+    return all([letter in LETTERS for letter in value])
+
+
+def is_mark(value):
+    """Whether it is a mark: (clock, person, life, number)."""
+    if not is_tuple_of(value, 4):
+        return False
+    clock, person, life, number = value
+    if person != "" and not is_name(person):
+        return False
+    return is_number_to(clock, 999999) and is_number_to(life, 99) and is_number_to(number, 99)
+
+
+def plain(value):
+    """The same thing, of plain tuples, strings and integers alone.
+
+    A caller may pass tuples of a class of their own; what is returned to them never has one.
+    """
+    if isinstance(value, tuple):
+        return tuple([plain(member) for member in value])
+    if isinstance(value, str):
+        return "".join([value])
+    if is_integer(value):
+        return int(value)
+    return value

@@ -1,0 +1,44 @@
+"""The interface: each name stands in its file, with its arguments."""
+
+import ast
+import inspect
+import unittest
+from importlib import import_module
+from pathlib import Path
+
+PACKAGE = Path(__file__).resolve().parent.parent / "ledgerloom"
+ERRORS = [
+    "InvalidNumber", "InvalidName", "InvalidValue", "InvalidTree", "InvalidText", "InvalidSheets", "InvalidViews",
+    "InvalidRights", "InvalidCell", "InvalidDeed", "InvalidStamp", "InvalidMark", "InvalidBytes",
+]
+INTERFACE = {
+    "errors": {"BookError": None, **{name: ["value"] for name in ERRORS}, "Undefined": ["what"]},
+    "amounts": {
+        "is_value": ["value"], "made_of": ["sign", "one", "other"], "shown": ["value"], "is_less": ["one", "other"],
+        "written": ["value"], "read_value": ["text"],
+    },
+    "trees": {"is_tree": ["value"], "printed": ["book", "tree"], "read_tree": ["book", "text"]},
+}
+
+
+class InterfaceTest(unittest.TestCase):
+    def test_names_and_arguments(self):
+        for module, names in INTERFACE.items():
+            for name, arguments in names.items():
+                thing = getattr(import_module(f"ledgerloom.{module}"), name)
+                if arguments is not None:
+                    parameters = inspect.signature(thing).parameters.values()
+                    self.assertEqual([parameter.name for parameter in parameters], arguments)
+                    for parameter in parameters:
+                        self.assertIs(parameter.kind, parameter.POSITIONAL_OR_KEYWORD)
+                        self.assertIs(parameter.default, parameter.empty)
+
+    def test_each_is_defined_in_its_own_file(self):
+        for module, names in INTERFACE.items():
+            tree = ast.parse((PACKAGE / f"{module}.py").read_text())
+            defined = {part.name for part in tree.body if isinstance(part, (ast.FunctionDef, ast.ClassDef))}
+            self.assertLessEqual(set(names), defined)
+
+
+if __name__ == "__main__":
+    unittest.main()
