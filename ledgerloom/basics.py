@@ -1,7 +1,8 @@
-"""What every module asks of a thing: whether it is an integer, a name or a mark; and its plain copy."""
+"""What every module asks of things: whether they are integers, names or marks, or ascending; and their plain copies."""
 
 LETTERS = "abcdefghijklmnopqrstuvwxyz"
 FIGURES = "0123456789"
+EVERYBODY = "all"
 
 
 def is_integer(value):
@@ -26,6 +27,11 @@ def is_name(value):
     return all([letter in LETTERS for letter in value])
 
 
+def is_person(value):
+    """Whether it is the name of a person: a name but the one for everybody."""
+    return is_name(value) and value != EVERYBODY
+
+
 def is_mark(value):
     """Whether it is a mark: (clock, person, life, number)."""
     if not is_tuple_of(value, 4):
@@ -34,6 +40,11 @@ def is_mark(value):
     if person != "" and not is_name(person):
         return False
     return is_number_to(clock, 999999) and is_number_to(life, 99) and is_number_to(number, 99)
+
+
+def is_ascending(things):
+    """Whether each of these, which can be compared, is more than the one ahead of it."""
+    return all([one < other for one, other in zip(things, things[1:])])
 
 
 def plain(value):

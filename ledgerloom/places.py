@@ -1,6 +1,7 @@
-"""Where the rows and columns of sheets stand, and how cells and areas are printed by their places."""
+"""Which cells sheets have, where their rows and columns stand, and how cells and areas are printed by their places."""
 
-from ledgerloom.basics import LETTERS
+from ledgerloom.basics import LETTERS, is_mark, is_tuple_of, plain
+from ledgerloom.errors import InvalidCell
 
 
 def sheet_named(sheets, name):
@@ -9,6 +10,27 @@ def sheet_named(sheets, name):
         if sheet[0] == name:
             return sheet
     return None
+
+
+def is_cell(sheets, value):
+    """Whether it is a cell of the sheets."""
+    # Marks are looked at ahead: one with a bool in it would be found among those with integers there.
+    if not is_tuple_of(value, 3) or not is_mark(value[1]) or not is_mark(value[2]):
+        return False
+    sheet = sheet_named(sheets, value[0])
+    return sheet is not None and value[1] in sheet[1] and value[2] in sheet[2]
+
+
+def checked_cell(sheets, cell):
+    """The plain cell, which has to be one of the sheets."""
+    if not is_cell(sheets, cell):
+        raise InvalidCell(cell)
+    return plain(cell)
+
+
+def cells_of(sheets):
+    """All cells of the sheets, ascending."""
+    return sorted([(name, row, column) for name, rows, columns, _ in sheets for row in rows for column in columns])
 
 
 def is_gone(sheets, tree):
@@ -29,6 +51,20 @@ def rows_of(tree):
 def columns_of(tree):
     """The marks of columns that a cell or an area names."""
     return tree[3::2]
+
+
+def cells_of_area(sheets, area):
+    """The cells of an area that is not gone, from the top, each row from the left."""
+    _, rows, columns, _ = sheet_named(sheets, area[1])
+    found_rows = between(rows, rows_of(area))
+    found_columns = between(columns, columns_of(area))
+    return [(area[1], row, column) for row in found_rows for column in found_columns]
+
+
+def between(marks, corners):
+    """The marks from the one of the two corners to the other, whichever stands first."""
+    places = sorted([marks.index(corner) for corner in corners])
+    return marks[places[0]:places[1] + 1]
 
 
 def print_of_places(sheets, tree):

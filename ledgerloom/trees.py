@@ -1,11 +1,13 @@
 """The trees of formulas: which there are, how they are printed in a book, and how a print is read."""
 
 from ledgerloom.amounts import SIGNS, is_error, is_value, written
-from ledgerloom.basics import is_mark, is_name, is_tuple_of, plain
+from ledgerloom.basics import is_mark, is_name, plain
 from ledgerloom.errors import InvalidText, InvalidTree
 from ledgerloom.places import print_of_places
 from ledgerloom.reading import BINDS, DEEPEST, MINUS_BINDS, Reader
 
+FORMULA_WORDS = ("value", "cell", "minus", "op", "if", "call")
+CONDITION_WORDS = ("value", "cell", "minus", "op", "if", "call", "here")
 CALL_WORDS = ("sum", "count", "least", "most")
 MOST_TREES = 40
 MOST_MEMBERS = 6
@@ -13,20 +15,32 @@ MOST_MEMBERS = 6
 
 def is_tree(value):
     """Whether it is a tree without "here"."""
+    return is_tree_within(value, FORMULA_WORDS)
+
+
+def is_condition(value):
+    """Whether it is a condition of a view: a tree, perhaps with "here"."""
+    return is_tree_within(value, CONDITION_WORDS)
+
+
+def is_tree_within(value, words):
+    """Whether it is a tree of trees that begin with these words alone."""
     found = 0
     waiting = [(value, 1, False)]
     while waiting:
         thing, deep, in_call = waiting.pop()
         found += 1
         # The bounds stand ahead, so that nothing big is ever gone through.
-        if found > MOST_TREES or deep > DEEPEST or not has_form(thing, in_call):
+        if found > MOST_TREES or deep > DEEPEST or not has_form(thing):
+            return False
+        if thing[0] not in words and not (in_call and thing[0] == "area"):
             return False
         waiting.extend([(part, deep + 1, thing[0] == "call") for part in parts_of(thing)])
     return True
 
 
-def has_form(thing, in_call):
-    """Whether it has the form of a tree, or of an area in a call, whatever its parts are."""
+def has_form(thing):
+    """Whether it has the form of a tree or of an area, whatever its parts are."""
     if not isinstance(thing, tuple) or len(thing) == 0:
         return False
     word = thing[0]
@@ -36,7 +50,9 @@ def has_form(thing, in_call):
     if word == "cell":
         return many == 4 and names_places(thing)
     if word == "area":
-        return many == 6 and in_call and names_places(thing)
+        return many == 6 and names_places(thing)
+    if word == "here":
+        return many == 2 and is_mark(thing[1])
     if word == "minus":
         return many == 2
     if word == "op":

@@ -1,10 +1,12 @@
-"""What several tests need: a stand-in for a book, odd things of all kinds, tuples of a class of their own."""
+"""What several tests need: books in few words, odd things of all kinds, tuples of a class of their own."""
 
 from ledgerloom import errors
+from ledgerloom.books import Book
+from ledgerloom.reckoning import Reckoner
 
 
 class Desk:
-    """Stands in for a book, of which formulas need nothing but its sheets."""
+    """Stands in for a book with more columns than one may have; of a book, prints need nothing but its sheets."""
 
     def __init__(self, sheets):
         self.sheets = sheets
@@ -54,6 +56,48 @@ def marks(clock, many):
 ROWS = marks(1, 30)
 COLUMNS = marks(2, 30)
 
+
+def book(*sheets, owner="ann", views=(), summaries=(), rights=()):
+    """The book of these sheets, that of ann if nothing else is told."""
+    return Book(owner, sheets, views, summaries, rights)
+
+
+def sheet(name, rows, columns, contents):
+    """The sheet of so many rows and columns, with these contents by the places of their rows and columns."""
+    cells = [(ROWS[row], COLUMNS[column], content) for (row, column), content in contents.items()]
+    return (name, ROWS[:rows], COLUMNS[:columns], tuple(sorted(cells, key=lambda cell: cell[:2])))
+
+
+def at(name, row, column):
+    """The cell of a sheet in the row and column of these places, counted from 0, as books name it."""
+    return (name, ROWS[row], COLUMNS[column])
+
+
+def paths(thing):
+    """The ways to all things that are within a thing, itself among them, as tuples of places."""
+    yield ()
+    if isinstance(thing, tuple):
+        for place, member in enumerate(thing):
+            yield from ((place,) + path for path in paths(member))
+
+
+def found_at(thing, path):
+    """What stands at the end of this way."""
+    for place in path:
+        thing = thing[place]
+    return thing
+
+
+def put_at(thing, path, new):
+    """The thing with a new one at the end of this way."""
+    if path == ():
+        return new
+    place = path[0]
+    return thing[:place] + (put_at(thing[place], path[1:], new),) + thing[place + 1:]
+
+
+SMALL_BOOK = book(("bills", (), (), ()))
+
 # Neither values, trees, signs nor texts that anything is written or printed as.
 ODD_THINGS = [
     0, 1, -1, 42, True, False, 999999999999, 10 ** 30,
@@ -61,7 +105,15 @@ ODD_THINGS = [
     (), [], (None,), [None], ((),), nested(60), [[[]]], ("number",), ("value",), ["number", 1, 1],
     tuple(range(3000)), list(range(3000)), (None,) * 30, ("number",) * 3, ("value",) * 2, ("call",) * 3,
     errors.InvalidValue(3), errors.InvalidTree(()), errors.Undefined("veiled"), (errors.InvalidText(""),) * 2,
-    (errors.InvalidText(""),) * 3,
+    (errors.InvalidText(""),) * 3, SMALL_BOOK, Reckoner(SMALL_BOOK), (SMALL_BOOK,), [SMALL_BOOK],
+]
+
+# What stands nowhere in the sheets, views, summaries and rights of a book that hold no texts and numbers.
+WRONG_EVERYWHERE = [
+    True, False, -1, 10 ** 30, 1000000, "A", "abcdefghi", "\x00", "\u00e9", "a b", [], [None], ["a"], (None,), ((),),
+    ("a",),
+    [0, "", 0, 0], (True, "", 0, 0), nested(60), tuple(range(3000)), errors.InvalidSheets(()), SMALL_BOOK,
+    Reckoner(SMALL_BOOK),
 ]
 
 # Values of all kinds, in their order.

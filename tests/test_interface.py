@@ -18,6 +18,18 @@ INTERFACE = {
         "written": ["value"], "read_value": ["text"],
     },
     "trees": {"is_tree": ["value"], "printed": ["book", "tree"], "read_tree": ["book", "text"]},
+    "books": {
+        "Book": ["owner", "sheets", "views", "summaries", "rights"], "right_of": ["book", "person", "sheet", "column"],
+    },
+    "meaning": {
+        "value_of": ["book", "cell"], "all_values": ["book"], "on_rings": ["book"], "needs": ["book", "cell"],
+        "needs_in_all": ["book", "cell"],
+    },
+    "reckoning": {"changed": ["before", "after"], "reached": ["book", "cells"], "Reckoner": ["book"]},
+}
+METHODS = {
+    ("books", "Book"): {"__eq__": ["self", "other"]},
+    ("reckoning", "Reckoner"): {"value": ["self", "cell"], "turn": ["self", "book"], "all_values": ["self"]},
 }
 
 
@@ -27,11 +39,21 @@ class InterfaceTest(unittest.TestCase):
             for name, arguments in names.items():
                 thing = getattr(import_module(f"ledgerloom.{module}"), name)
                 if arguments is not None:
-                    parameters = inspect.signature(thing).parameters.values()
-                    self.assertEqual([parameter.name for parameter in parameters], arguments)
-                    for parameter in parameters:
-                        self.assertIs(parameter.kind, parameter.POSITIONAL_OR_KEYWORD)
-                        self.assertIs(parameter.default, parameter.empty)
+                    self.takes(thing, arguments)
+
+    def takes(self, thing, arguments):
+        parameters = inspect.signature(thing).parameters.values()
+        self.assertEqual([parameter.name for parameter in parameters], arguments)
+        for parameter in parameters:
+            self.assertIs(parameter.kind, parameter.POSITIONAL_OR_KEYWORD)
+            self.assertIs(parameter.default, parameter.empty)
+
+    def test_methods_stand_in_the_classes_themselves(self):
+        for (module, name), methods in METHODS.items():
+            kind = getattr(import_module(f"ledgerloom.{module}"), name)
+            for method, arguments in methods.items():
+                self.assertIn(method, vars(kind))
+                self.takes(vars(kind)[method], arguments)
 
     def test_each_is_defined_in_its_own_file(self):
         for module, names in INTERFACE.items():

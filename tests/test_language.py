@@ -16,7 +16,7 @@ BUILTINS = set(
 METHODS = set(
     "append clear copy count endswith extend find get index insert isalnum isalpha isdigit islower isspace isupper items "
     "join keys ljust lower lstrip partition pop remove replace reverse rfind rjust rpartition rsplit rstrip setdefault "
-    "split splitlines startswith strip update upper values zfill bit_length add discard sort".split()
+    "split splitlines startswith strip update upper values zfill bit_length add discard".split()
 )
 WORDS = (
     "type typing enum Enum Generic Protocol ABC ABCMeta namedtuple NamedTuple TypedDict abstractmethod dataclass overload "
@@ -75,6 +75,35 @@ class LanguageTest(unittest.TestCase):
                     self.assertEqual(folder, PACKAGE.name)
                     there = set(names_given(ast.parse((PACKAGE / f"{name}.py").read_text())))
                     self.assertLessEqual({alias.name for alias in part.names}, there, path)
+
+    def test_each_import_is_used_and_its_name_means_nothing_else(self):
+        for path, _, tree in files():
+            imported = [alias.name for part in tree.body if isinstance(part, ast.ImportFrom) for alias in part.names]
+            self.assertEqual(len(imported), len(set(imported)), path)
+            read = {part.id for part in ast.walk(tree) if isinstance(part, ast.Name) and isinstance(part.ctx, ast.Load)}
+            self.assertLessEqual(set(imported), read, path)
+            for name in imported:
+                self.assertEqual(list(names_given(tree)).count(name), 1, (path, name))
+
+    def test_no_two_files_import_from_each_other(self):
+        below = {}
+        for path, _, tree in files():
+            modules = [part.module for part in tree.body if isinstance(part, ast.ImportFrom)]
+            below[path.stem] = {module.split(".")[1] for module in modules if module.startswith(PACKAGE.name)}
+        while below:
+            lowest = [name for name in below if not below[name] & set(below)]
+            self.assertTrue(lowest, below)
+            for name in lowest:
+                del below[name]
+
+    def test_what_goes_over_many_things_takes_a_list(self):
+        # The package has a class with an __eq__: beside one, these take no generator.
+        for path, _, tree in files():
+            for part in ast.walk(tree):
+                self.assertNotIsInstance(part, (ast.GeneratorExp, ast.Yield, ast.YieldFrom), path)
+                if isinstance(part, ast.FunctionDef) and part.name == "__eq__":
+                    first = part.body[0].value.values[0]
+                    self.assertEqual((first.func.id, first.args[0].id), ("isinstance", "other"), path)
 
     def test_what_stands_at_module_level(self):
         for path, _, tree in files():

@@ -1,29 +1,34 @@
-"""[11]: how trees are printed."""
+"""[11]: how trees are printed in a book."""
 
 import unittest
 
 from ledgerloom.errors import InvalidTree
 from ledgerloom.trees import printed
 from tests.helper import (
-    COLUMNS, Desk, ODD_THINGS, ROWS, area, bush, call, cell, chain, number, own, text, truth,
+    COLUMNS, Desk, ODD_THINGS, ROWS, area, book, bush, call, cell, chain, number, own, text, truth,
 )
 
 SIGNS = ["+", "-", "*", "/", "&", "=", "<"]
 BINDS = {"=": 1, "<": 1, "&": 2, "+": 3, "-": 3, "*": 4, "/": 4}
 A, B, C = number(1), number(2), number(3)
-DESK = Desk((
+SHEETS = (
     ("bills", ROWS[:12], COLUMNS[:6], ((ROWS[0], COLUMNS[0], ("=", number(1))),)),
     ("empty", (), (), ()),
-    ("wide", ROWS[::-1], COLUMNS, ()),
+    ("wide", ROWS[1::-1], COLUMNS[:12], ()),
     ("yes", ROWS[2:4], COLUMNS[3:4], ()),
-))
+)
+BOOK = book(*SHEETS)
+OTHER_BOOKS = (
+    book(*own(SHEETS), owner="bob"),
+    book(*SHEETS, views=(("all", "bills", number(1), ()),), rights=(("all", "bills", None, "none"),)),
+)
 
 
 class PrintedTest(unittest.TestCase):
     def prints(self, tree, told):
-        for book in (DESK, Desk(own(DESK.sheets))):
+        for some_book in (BOOK, *OTHER_BOOKS):
             for same in (tree, own(tree)):
-                found = printed(book, same)
+                found = printed(some_book, same)
                 self.assertEqual(found, told)
                 self.assertIs(type(found), str)
 
@@ -49,20 +54,25 @@ class PrintedTest(unittest.TestCase):
         self.prints(cell("yes", 3, 3), "yes!a2")
 
     def test_places_and_not_marks_are_printed(self):
-        self.prints(cell("wide", 29, 0), "wide!a1")
-        self.prints(cell("wide", 0, 0), "wide!a30")
-        desk = Desk((("bills", (ROWS[4], ROWS[1]), (COLUMNS[9], COLUMNS[2]), ()),))
-        self.assertEqual(printed(desk, cell("bills", 1, 9)), "bills!a2")
-        self.assertEqual(printed(desk, cell("bills", 4, 2)), "bills!b1")
+        self.prints(cell("wide", 1, 0), "wide!a1")
+        self.prints(cell("wide", 0, 0), "wide!a2")
+        other = book(("bills", (ROWS[4], ROWS[1]), (COLUMNS[9], COLUMNS[2]), ()))
+        self.assertEqual(printed(other, cell("bills", 1, 9)), "bills!a2")
+        self.assertEqual(printed(other, cell("bills", 4, 2)), "bills!b1")
+        tall = book(("bills", ROWS[::-1], COLUMNS[2::-1], ()))
+        self.assertEqual(printed(tall, cell("bills", 0, 0)), "bills!c30")
+        self.assertEqual(printed(tall, call("sum", area("bills", 0, 2, 29, 0))), "sum(bills!a30:bills!c1)")
 
     def test_columns(self):
-        for place, letter in enumerate("abcdefghijklmnopqrstuvwxyz"):
-            self.prints(cell("wide", 29, place), f"wide!{letter}1")
-        self.prints(cell("wide", 29, 26), "wide!aa1")
-        self.prints(cell("wide", 29, 29), "wide!ad1")
+        for place, letter in enumerate("abcdefghijkl"):
+            self.prints(cell("wide", 1, place), f"wide!{letter}1")
+
+    def test_more_columns_than_a_book_has(self):
         columns = tuple((clock, "", 0, 0) for clock in range(800))
         desk = Desk((("bills", ROWS, columns, ()),))
-        for place, letters in ((51, "az"), (52, "ba"), (700, "zy"), (701, "zz"), (702, "aaa"), (728, "aba")):
+        for place, letters in (
+            (25, "z"), (26, "aa"), (29, "ad"), (51, "az"), (52, "ba"), (700, "zy"), (701, "zz"), (702, "aaa"), (728, "aba"),
+        ):
             self.assertEqual(printed(desk, ("cell", "bills", ROWS[0], columns[place])), f"bills!{letters}1")
 
     def test_areas(self):
@@ -84,7 +94,8 @@ class PrintedTest(unittest.TestCase):
         ):
             self.prints(call("sum", gone), "sum(#gone)")
             self.prints(call("sum", gone, area("bills", 0, 0, 1, 1), gone), "sum(#gone, bills!a1:bills!b2, #gone)")
-        self.assertEqual(printed(Desk(()), cell("bills", 0, 0)), "#gone")
+        self.prints(cell("wide", 0, 12), "#gone")
+        self.assertEqual(printed(book(("bills", (), COLUMNS[:2], ())), cell("bills", 0, 0)), "#gone")
         self.prints(("cell", "bills", (1, "ann", 0, 0), COLUMNS[0]), "#gone")
         self.prints(("cell", "bills", (1, "", 1, 0), COLUMNS[0]), "#gone")
 
@@ -134,11 +145,11 @@ class PrintedTest(unittest.TestCase):
 
     def test_trees_at_the_bounds(self):
         self.prints(chain(12), "-" * 11 + "1")
-        self.assertEqual(printed(DESK, bush(39)).count("1"), 20)
+        self.assertEqual(printed(BOOK, bush(39)).count("1"), 20)
 
     def test_by_name(self):
-        self.assertEqual(printed(book=DESK, tree=A), "1")
-        self.assertEqual(printed(tree=B, book=DESK), "2")
+        self.assertEqual(printed(book=BOOK, tree=A), "1")
+        self.assertEqual(printed(tree=B, book=BOOK), "2")
 
     def test_refuses(self):
         for wrong in [
@@ -147,7 +158,7 @@ class PrintedTest(unittest.TestCase):
             ("op", "+", A, list(B)), ("cell", "bills", (True, "", 0, 0), COLUMNS[0]),
         ]:
             with self.assertRaises(InvalidTree) as caught:
-                printed(DESK, wrong)
+                printed(BOOK, wrong)
             self.assertIs(caught.exception.value, wrong)
 
 

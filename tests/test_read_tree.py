@@ -1,4 +1,4 @@
-"""[11]: how the print of a tree is read."""
+"""[11]: how the print of a tree is read in a book."""
 
 import random
 import unittest
@@ -6,28 +6,35 @@ import unittest
 from ledgerloom.errors import InvalidText
 from ledgerloom.trees import is_tree, printed, read_tree
 from tests.helper import (
-    COLUMNS, Desk, ODD_THINGS, ROWS, area, bush, call, cell, chain, is_plain, number, own, text, truth,
+    COLUMNS, Desk, ODD_THINGS, ROWS, area, book, bush, call, cell, chain, is_plain, number, own, text, truth,
 )
 
 SIGNS = ["+", "-", "*", "/", "&", "=", "<"]
 A = number(1)
-DESK = Desk((
-    ("bills", ROWS[:12], COLUMNS[:3], ((ROWS[0], COLUMNS[0], ("number", 1, 1)),)),
+# Sheets whose names are words of formulas.
+WORDY = (
     ("if", ROWS[:2], COLUMNS[:2], ()),
     ("no", ROWS[:0], COLUMNS[:2], ()),
     ("sum", ROWS[:2], COLUMNS[:2], ()),
-    ("wide", ROWS[:1], COLUMNS, ()),
     ("yes", ROWS[1::-1], COLUMNS[1::-1], ()),
-))
+)
+SHEETS = (
+    ("bills", ROWS[:12], COLUMNS[:3], ((ROWS[0], COLUMNS[0], ("number", 1, 1)),)),
+    ("sum", ROWS[:2], COLUMNS[:2], ()),
+    ("wide", ROWS[:1], COLUMNS[:12], ()),
+    ("yes", ROWS[1::-1], COLUMNS[1::-1], ()),
+)
+BOOK = book(*SHEETS)
+OTHER_BOOK = book(*own(SHEETS), owner="bob", rights=(("all", "bills", None, "none"),))
 LEAVES = [
     number(0), A, number(-1), number(1, 2), number(-7, 3), number(999999999999999), number(-10, 999999999999999),
     text(""), text("a"), text("1 + (2)"), text(", "), text("#gone"), text(")"), text("(-1)"), text("-(") , truth(0), truth(1),
-    cell("bills", 0, 0), cell("bills", 10, 2), cell("if", 1, 1), cell("sum", 0, 1), cell("yes", 0, 0), cell("yes", 1, 0),
-    cell("wide", 0, 25), cell("wide", 0, 26),
+    cell("bills", 0, 0), cell("bills", 10, 2), cell("sum", 1, 1), cell("sum", 0, 1), cell("yes", 0, 0), cell("yes", 1, 0),
+    cell("wide", 0, 0), cell("wide", 0, 11),
 ]
 AREAS = [
-    area("bills", 0, 0, 11, 2), area("bills", 11, 2, 0, 0), area("bills", 3, 0, 1, 2), area("if", 0, 0, 0, 0),
-    area("yes", 0, 1, 1, 0), area("wide", 0, 2, 0, 28),
+    area("bills", 0, 0, 11, 2), area("bills", 11, 2, 0, 0), area("bills", 3, 0, 1, 2), area("sum", 0, 0, 0, 0),
+    area("yes", 0, 1, 1, 0), area("wide", 0, 2, 0, 11),
 ]
 
 NO_PRINTS = [
@@ -44,7 +51,7 @@ NO_PRINTS = [
     "bills", "bills!", "bills!a", "bills!1", "bills!1a", "bills!a 1", "bills! a1", "bills !a1", "bills!a1 ", "bills!a1a",
     "bills!A1", "Bills!a1", "bills!a0", "bills!a01", "bills!a001", "bills!a+1", "bills!a-1", "bills!a13", "bills!d1",
     "bills!aa1", "bills!a1.0", "bills!a\u0661", "bills!a" + "1" * 3000, "bills!" + "a" * 3000 + "1", "bills!!a1", "!a1",
-    "bill!a1", "billss!a1", "no!a1", "none!a1", "wide!ae1", "wide!a2", "wide!a", "bills!b12b12", "a1",
+    "bill!a1", "billss!a1", "no!a1", "none!a1", "wide!m1", "wide!aa1", "wide!a2", "wide!a", "bills!b12b12", "a1",
     "bills!a1:bills!b2", "1 + bills!a1:bills!b2", "-bills!a1:bills!b2", "if(bills!a1:bills!b2, 1, 2)", "(bills!a1:bills!b2)",
     "sum((bills!a1:bills!b2))", "sum(-bills!a1:bills!b2)", "sum(bills!a1:bills!b2 + 1)", "sum(bills!a1:b2)", "sum(a1:b2)",
     "sum(bills!a1:sum!b2)", "sum(bills!a1 :bills!b2)", "sum(bills!a1: bills!b2)", "sum(bills!a1:bills!d2)",
@@ -92,17 +99,17 @@ def small_trees():
 
 class ReadTreeTest(unittest.TestCase):
     def reads(self, tree):
-        told = printed(DESK, tree)
-        for book in (DESK, Desk(own(DESK.sheets))):
+        told = printed(BOOK, tree)
+        for some_book in (BOOK, OTHER_BOOK):
             for same in (told, own(told)):
-                found = read_tree(book, same)
+                found = read_tree(some_book, same)
                 self.assertEqual(found, tree, told)
                 self.assertTrue(is_plain(found))
         return told
 
-    def refuses(self, wrong, book=DESK):
+    def refuses(self, wrong, some_book=BOOK):
         with self.assertRaises(InvalidText) as caught:
-            read_tree(book, wrong)
+            read_tree(some_book, wrong)
         self.assertIs(caught.exception.value, wrong)
 
     def test_leaves(self):
@@ -116,14 +123,14 @@ class ReadTreeTest(unittest.TestCase):
             self.reads(call("most", A, thing, A, thing))
 
     def test_some_prints(self):
-        self.assertEqual(read_tree(DESK, "bills!b3"), cell("bills", 2, 1))
-        self.assertEqual(read_tree(DESK, "yes!b1"), cell("yes", 1, 0))
-        self.assertEqual(read_tree(DESK, "if!a1"), cell("if", 0, 0))
-        self.assertEqual(read_tree(book=DESK, text="--(-1)"), ("minus", ("minus", number(-1))))
-        self.assertEqual(read_tree(DESK, "1 - 1 * 1"), ("op", "-", A, ("op", "*", A, A)))
-        self.assertEqual(read_tree(DESK, "sum(bills!a2:bills!c1)"), call("sum", area("bills", 1, 0, 0, 2)))
-        self.assertEqual(read_tree(DESK, "-1 * 1"), ("op", "*", ("minus", A), A))
-        self.assertEqual(read_tree(DESK, "-(1 * 1)"), ("minus", ("op", "*", A, A)))
+        self.assertEqual(read_tree(BOOK, "bills!b3"), cell("bills", 2, 1))
+        self.assertEqual(read_tree(BOOK, "yes!b1"), cell("yes", 1, 0))
+        self.assertEqual(read_tree(BOOK, "wide!l1"), cell("wide", 0, 11))
+        self.assertEqual(read_tree(book=BOOK, text="--(-1)"), ("minus", ("minus", number(-1))))
+        self.assertEqual(read_tree(BOOK, "1 - 1 * 1"), ("op", "-", A, ("op", "*", A, A)))
+        self.assertEqual(read_tree(BOOK, "sum(bills!a2:bills!c1)"), call("sum", area("bills", 1, 0, 0, 2)))
+        self.assertEqual(read_tree(BOOK, "-1 * 1"), ("op", "*", ("minus", A), A))
+        self.assertEqual(read_tree(BOOK, "-(1 * 1)"), ("minus", ("op", "*", A, A)))
 
     def test_all_small_trees_and_no_two_with_one_print(self):
         prints = {}
@@ -164,11 +171,11 @@ class ReadTreeTest(unittest.TestCase):
         self.refuses(" + ".join("1" * 21))
         self.refuses("1 - (" * 12 + "1 - 1" + ")" * 12)
         self.refuses("sum(" * 12 + "1" + ")" * 12)
-        self.reads(read_tree(DESK, "sum(" * 11 + "1" + ")" * 11))
-        self.reads(read_tree(DESK, " + ".join("1" * 12)))
+        self.reads(read_tree(BOOK, "sum(" * 11 + "1" + ")" * 11))
+        self.reads(read_tree(BOOK, " + ".join("1" * 12)))
         five = "sum(" + ", ".join("11111") + ")"
         self.refuses(f"sum({', '.join([five] * 6)}) + sum(1, 1)")
-        self.reads(read_tree(DESK, f"sum({', '.join([five] * 6)}) + 1"))
+        self.reads(read_tree(BOOK, f"sum({', '.join([five] * 6)}) + 1"))
 
     def test_what_is_no_print(self):
         for wrong in NO_PRINTS:
@@ -199,19 +206,33 @@ class ReadTreeTest(unittest.TestCase):
         for rows, columns, told in (
             (ROWS[:2], COLUMNS[:2], "bills!b2"), (ROWS[1:3], COLUMNS[:2], "bills!b1"), (ROWS[:2], COLUMNS[1::-1], "bills!a2"),
         ):
-            book = Desk((("bills", rows, columns, ()),))
-            self.assertEqual(printed(book, tree), told)
-            self.assertEqual(read_tree(book, told), tree)
-        self.refuses("bills!b2", Desk((("bills", ROWS[:1], COLUMNS[:2], ()),)))
-        self.refuses("bills!b2", Desk((("bills", ROWS[:2], COLUMNS[:1], ()),)))
-        self.refuses("bills!a1", Desk((("bills", (), (), ()),)))
-        self.refuses("bills!a1", Desk(()))
+            other = book(("bills", rows, columns, ()))
+            self.assertEqual(printed(other, tree), told)
+            self.assertEqual(read_tree(other, told), tree)
+        self.refuses("bills!b2", book(("bills", ROWS[:1], COLUMNS[:2], ())))
+        self.refuses("bills!b2", book(("bills", ROWS[:2], COLUMNS[:1], ())))
+        self.refuses("bills!a1", book(("bills", (), (), ())))
+        self.refuses("bills!a1", book(("bill", ROWS, COLUMNS[:3], ())))
+
+    def test_sheets_with_words_of_formulas_as_names(self):
+        wordy = book(*WORDY)
+        self.assertEqual(read_tree(wordy, "if!a1"), cell("if", 0, 0))
+        tree = ("if", cell("if", 0, 1), call("sum", area("sum", 0, 0, 1, 1)), cell("yes", 0, 0))
+        self.assertEqual(printed(wordy, tree), "if(if!b1, sum(sum!a1:sum!b2), yes!b2)")
+        self.assertEqual(read_tree(wordy, printed(wordy, tree)), tree)
+        self.refuses("no!a1", wordy)
+
+    def test_more_columns_than_a_book_has(self):
+        desk = Desk((("wide", ROWS[:1], COLUMNS, ()),))
+        for place, letters in ((25, "z"), (26, "aa"), (29, "ad")):
+            self.assertEqual(read_tree(desk, f"wide!{letters}1"), cell("wide", 0, place))
+        self.refuses("wide!ae1", desk)
 
     def test_whatever_is_read_is_printed_so(self):
         chance = random.Random(12)
         signs = '1-0/()+*<=&, "a!:bsumyenoif#'
         for tree in [tree for tree in small_trees()][::40] + [call("sum", thing) for thing in AREAS] + LEAVES:
-            told = printed(DESK, tree)
+            told = printed(BOOK, tree)
             for at in range(len(told) + 1):
                 sign = chance.choice(signs)
                 for near in (told[:at] + told[at + 1:], told[:at] + sign + told[at:], told[:at] + sign + told[at + 1:]):
@@ -219,12 +240,12 @@ class ReadTreeTest(unittest.TestCase):
 
     def read_or_refused(self, near):
         try:
-            tree = read_tree(DESK, near)
+            tree = read_tree(BOOK, near)
         except InvalidText as error:
             self.assertIs(error.value, near)
             return
         self.assertTrue(is_tree(tree))
-        self.assertEqual(printed(DESK, tree), near)
+        self.assertEqual(printed(BOOK, tree), near)
 
 
 if __name__ == "__main__":

@@ -1,0 +1,60 @@
+"""What cells hold, what their formulas mention, and which cells they need, also in all."""
+
+from ledgerloom.places import cells_of_area, is_gone
+from ledgerloom.trees import parts_of
+
+
+def contents_of(sheets):
+    """The contents of all cells that have one, by cell, ascending."""
+    return {(name, row, column): content for name, _, _, cells in sheets for row, column, content in cells}
+
+
+def tree_in(content):
+    """The tree of a formula; None for a value, and where there is no content."""
+    return content[1] if content is not None and content[0] == "=" else None
+
+
+def mentions_of(sheets, tree):
+    """What a tree or an area mentions, each cell as often as it stands there, None for each thing that is gone."""
+    if tree[0] not in ("cell", "area"):
+        return [cell for part in parts_of(tree) for cell in mentions_of(sheets, part)]
+    if is_gone(sheets, tree):
+        return [None]
+    return [tree[1:]] if tree[0] == "cell" else cells_of_area(sheets, tree)
+
+
+def needed_by(sheets, content):
+    """The cells that a cell with this content needs, ascending."""
+    tree = tree_in(content)
+    if tree is None:
+        return []
+    return sorted({cell for cell in mentions_of(sheets, tree) if cell is not None})
+
+
+def needs_below(sheets, cells):
+    """What each of these cells needs, and each that one of them needs in all, by cell."""
+    contents = contents_of(sheets)
+    found = {}
+    waiting = list(cells)
+    while waiting:
+        cell = waiting.pop()
+        if cell not in found:
+            found[cell] = needed_by(sheets, contents.get(cell))
+            waiting.extend(found[cell])
+    return found
+
+
+def in_all(needed):
+    """All that each cell needs in all, ascending, of what each needs; only cells of which that is told count.
+
+    A number for each cell has a bit for each one that is reached from it, over more and more of the cells
+    between: so a hundred cells of which each needs all take no longer than others.
+    """
+    cells = sorted(needed)
+    bits = {cell: 1 << place for place, cell in enumerate(cells)}
+    ways = {cell: sum([bits.get(other, 0) for other in needed[cell]]) for cell in cells}
+    for between in cells:
+        for cell in cells:
+            if ways[cell] & bits[between] != 0:
+                ways[cell] = ways[cell] | ways[between]
+    return {cell: [other for other in cells if ways[cell] & bits[other] != 0] for cell in cells}
