@@ -189,13 +189,16 @@ def written(value):
 
 def read_value(text):
     """The value that is written so."""
-    if not isinstance(text, str):
+    if not isinstance(text, str) or not is_written(text):
         raise InvalidText(text)
+    return guess_of(text)
+
+
+def is_written(text):
+    """Whether some value is written so."""
     value = guess_of(text)
     # Only the way back tells that nothing but the one way of writing is let.
-    if not is_value(value) or written(value) != text:
-        raise InvalidText(text)
-    return value
+    return is_value(value) and written(value) == text
 
 
 def guess_of(text):

@@ -47,6 +47,25 @@ def is_ascending(things):
     return all([one < other for one, other in zip(things, things[1:])])
 
 
+def named(things, name):
+    """The one of these sheets, views or summaries that has this name, None if there is none."""
+    for thing in things:
+        if thing[0] == name:
+            return thing
+    return None
+
+
+def is_same(value, known):
+    """Whether it is the same as a known thing of plain tuples, strings, integers and None, with no bool in it."""
+    if isinstance(known, tuple):
+        if not is_tuple_of(value, len(known)):
+            return False
+        return all([is_same(member, part) for member, part in zip(value, known)])
+    if known is None:
+        return value is None
+    return (is_integer(value) or isinstance(value, str)) and value == known
+
+
 def plain(value):
     """The same thing, of plain tuples, strings and integers alone.
 

@@ -1,9 +1,8 @@
 """Books: which sheets, views, summaries and rights there are, and what right a person has on a column."""
 
 from ledgerloom.amounts import is_value
-from ledgerloom.basics import EVERYBODY, is_ascending, is_mark, is_name, is_person, is_tuple_of, plain
+from ledgerloom.basics import EVERYBODY, is_ascending, is_mark, is_name, is_person, is_tuple_of, named, plain
 from ledgerloom.errors import InvalidMark, InvalidName, InvalidRights, InvalidSheets, InvalidViews
-from ledgerloom.places import sheet_named
 from ledgerloom.trees import is_condition, is_tree
 
 MOST_SHEETS = 4
@@ -151,11 +150,19 @@ def right_of(book, person, sheet, column):
     """The right of the person on a column of a sheet of the book."""
     if not is_person(person):
         raise InvalidName(person)
-    found = sheet_named(book.sheets, sheet)
+    found = named(book.sheets, sheet)
     if found is None:
         raise InvalidName(sheet)
     if not is_mark(column) or column not in found[2]:
         raise InvalidMark(column)
+    return right_on(book, person, sheet, column)
+
+
+def right_on(book, person, sheet, column):
+    """The right of the person on what is known to be a column of the book.
+
+    With None in its place only the rules for all columns of the sheet speak.
+    """
     if person == book.owner:
         return "write"
     words = [rule[3] for rule in book.rights if speaks_of(rule, person, sheet, column)]

@@ -1,15 +1,7 @@
 """Which cells sheets have, where their rows and columns stand, and how cells and areas are printed by their places."""
 
-from ledgerloom.basics import LETTERS, is_mark, is_tuple_of, plain
+from ledgerloom.basics import LETTERS, is_mark, is_tuple_of, named, plain
 from ledgerloom.errors import InvalidCell
-
-
-def sheet_named(sheets, name):
-    """The sheet of this name, None if there is none."""
-    for sheet in sheets:
-        if sheet[0] == name:
-            return sheet
-    return None
 
 
 def is_cell(sheets, value):
@@ -17,7 +9,7 @@ def is_cell(sheets, value):
     # Marks are looked at ahead: one with a bool in it would be found among those with integers there.
     if not is_tuple_of(value, 3) or not is_mark(value[1]) or not is_mark(value[2]):
         return False
-    sheet = sheet_named(sheets, value[0])
+    sheet = named(sheets, value[0])
     return sheet is not None and value[1] in sheet[1] and value[2] in sheet[2]
 
 
@@ -35,7 +27,7 @@ def cells_of(sheets):
 
 def is_gone(sheets, tree):
     """Whether a cell or an area names a sheet, a row or a column that is not there."""
-    sheet = sheet_named(sheets, tree[1])
+    sheet = named(sheets, tree[1])
     if sheet is None:
         return True
     _, rows, columns, _ = sheet
@@ -55,7 +47,7 @@ def columns_of(tree):
 
 def cells_of_area(sheets, area):
     """The cells of an area that is not gone, from the top, each row from the left."""
-    _, rows, columns, _ = sheet_named(sheets, area[1])
+    _, rows, columns, _ = named(sheets, area[1])
     found_rows = between(rows, rows_of(area))
     found_columns = between(columns, columns_of(area))
     return [(area[1], row, column) for row in found_rows for column in found_columns]
@@ -71,7 +63,7 @@ def print_of_places(sheets, tree):
     """The print of a cell or an area."""
     if is_gone(sheets, tree):
         return "#gone"
-    _, rows, columns, _ = sheet_named(sheets, tree[1])
+    _, rows, columns, _ = named(sheets, tree[1])
     corners = []
     for row, column in zip(rows_of(tree), columns_of(tree)):
         letters = letters_of(columns.index(column) + 1)

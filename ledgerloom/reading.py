@@ -1,9 +1,9 @@
 """Reading the print of a formula."""
 
 from ledgerloom.amounts import SIGNS, TRUTH_WORDS, number_from
-from ledgerloom.basics import FIGURES, LETTERS
+from ledgerloom.basics import FIGURES, LETTERS, named
 from ledgerloom.errors import InvalidText
-from ledgerloom.places import column_at, row_at, sheet_named
+from ledgerloom.places import column_at, row_at
 
 # How much a sign binds, against the others; a minus ahead of one tree binds more than they all.
 BINDS = {"=": 0, "<": 0, "&": 1, "+": 2, "-": 2, "*": 3, "/": 3}
@@ -98,7 +98,7 @@ class Reader:
 
     def read_corner(self, name):
         """The marks of the row and the column that the letters and figures ahead tell, None where there is none."""
-        sheet = sheet_named(self.sheets, name)
+        sheet = named(self.sheets, name)
         if sheet is None:
             raise InvalidText(self.text)
         column = column_at(sheet, self.take_run(LETTERS))

@@ -141,3 +141,78 @@ def changed_sheets(chance, sheets):
     if len(sheets) < 4 and fresh:
         sheets.append((chance.choice(fresh), some_marks(chance, 5), some_marks(chance, 4), ()))
     return sorted(sheets)
+
+
+def some_rights(chance, sheets, persons):
+    """Some rules, most of them about columns that are there."""
+    rules = [("all", sheet[0], None, "read") for sheet in sheets if chance.random() < 0.6]
+    for _ in range(chance.randint(0, 5)):
+        name, _, columns, _ = chance.choice(sheets)
+        column = chance.choice([None, None, *columns, some_mark(chance)])
+        rules.append((chance.choice(["all", *persons]), name, column, chance.choice(["none", "read", "read", "write"])))
+    return tuple(rules)
+
+
+def some_condition(chance, sheets, name):
+    """Some condition of a view of a sheet: in most trees many cells give way to those of the row."""
+    columns = [column for sheet in sheets if sheet[0] == name for column in sheet[2]]
+    kind = chance.choice(["yes", "less", "any", "any"])
+    if kind == "yes":
+        return ("value", ("truth", 1))
+    if kind == "less":
+        tree = ("op", chance.choice("<="), *[some_tree(chance, sheets, 1) for _ in range(2)])
+    else:
+        tree = some_tree(chance, sheets, 3)
+    return with_here(chance, tree, columns)
+
+
+def with_here(chance, tree, columns):
+    """The tree with "here" in place of some of its cells and values."""
+    if tree[0] in ("cell", "value"):
+        column = chance.choice([*columns, some_mark(chance)])
+        return ("here", column) if chance.random() < 0.7 else tree
+    if tree[0] == "call":
+        return ("call", tree[1], tuple(with_here(chance, part, columns) for part in tree[2]))
+    if tree[0] == "area":
+        return tree
+    at = 2 if tree[0] == "op" else 1
+    return (*tree[:at], *[with_here(chance, part, columns) for part in tree[at:]])
+
+
+def some_view(chance, sheets, name):
+    """Some view of this name."""
+    sheet_name, _, columns, _ = chance.choice(sheets)
+    marks = [*columns, some_mark(chance)]
+    order = [(column, chance.choice(["up", "down"])) for column in dict.fromkeys(chance.choices(marks, k=3))]
+    condition = some_condition(chance, sheets, sheet_name)
+    if chance.random() < 0.1:
+        sheet_name = chance.choice(NAMES)
+    return (name, sheet_name, condition, tuple(order[:chance.randint(0, 3)]))
+
+
+def some_summary(chance, sheets, views, name):
+    """Some summary of this name."""
+    view = chance.choice(views)
+    columns = [column for sheet in sheets if sheet[0] == view[1] for column in sheet[2]]
+    marks = [chance.choice([*columns, *columns, some_mark(chance)]) for _ in range(2)]
+    return (name, chance.choice([view[0], view[0], view[0], "none"]), *marks)
+
+
+def some_shared_book(chance, persons=("bob", "eve")):
+    """Some small book with views, summaries and rights."""
+    sheets = some_book(chance).sheets
+    views = tuple(some_view(chance, sheets, name) for name in ("few", "many", "none")[:chance.randint(1, 3)])
+    summaries = tuple(some_summary(chance, sheets, views, name) for name in ("all", "most"))
+    return Book("ann", sheets, views, summaries, some_rights(chance, sheets, persons))
+
+
+def alike_book(chance, book, is_open):
+    """A book that differs from this one in nothing but contents of cells that are not open."""
+    contents = contents_of(book)
+    for cell in cells_of(book.sheets):
+        if not is_open(cell):
+            contents.pop(cell, None)
+            if chance.random() < 0.7:
+                contents[cell] = some_content(chance, book.sheets, 0.5)
+    sheets = with_contents(book.sheets, contents).sheets
+    return Book(book.owner, sheets, book.views, book.summaries, book.rights)

@@ -4,8 +4,11 @@ import time
 import unittest
 
 from ledgerloom.meaning import all_values, needs, needs_in_all, on_rings, value_of
+from ledgerloom.pages import page, read_page
+from ledgerloom.papers import paper_for, paper_holds, paper_of
 from ledgerloom.reckoning import Reckoner, changed, reached
-from tests.helper import area, at, book, call, cell, number, sheet, text
+from ledgerloom.seeing import seen, summary_of, view_rows
+from tests.helper import COLUMNS, ROWS, area, at, book, call, cell, number, sheet, text
 
 LONG = 20
 RING = ("error", "ring")
@@ -121,6 +124,45 @@ class GreatBooksTest(unittest.TestCase):
         for k in range(30):
             self.assertEqual(len(reckoner.turn(some_book if k % 2 else other)), 100)
             self.assertEqual(reckoner.value(at("bills", 24, 3)), ("text", "a" if k % 2 else "b"))
+
+    def shared(self, contents, condition):
+        """A book of these contents with a view and a summary, of which bob may read all."""
+        order = tuple((COLUMNS[k], "down") for k in range(3))
+        return book(
+            sheet("bills", 25, 4, contents), views=(("few", "bills", condition, order),),
+            summaries=(("most", "few", COLUMNS[0], COLUMNS[3]),), rights=(("bob", "bills", None, "read"),) * 20,
+        )
+
+    def test_a_chain_is_seen_viewed_and_paged_at_once(self):
+        contents = {(0, 0): ("number", 1, 1)}
+        for k in range(1, 100):
+            contents[place_of(k, 4)] = ("=", ("op", "+", twice(cell("bills", *place_of(k - 1, 4))), number(1)))
+        six = call("sum", *[area("bills", 0, 0, 24, 3)] * 6)
+        condition = ("op", "<", call("count", six, six, six, six, ("here", COLUMNS[0])), ("here", COLUMNS[1]))
+        some_book = self.shared(contents, condition)
+        last = at("bills", 24, 3)
+        self.assertEqual(seen(some_book, "bob", last)[2], ("number", 8, 1))
+        self.assertEqual(view_rows(some_book, "bob", "few"), ROWS[1:25] + ROWS[:1])
+        self.assertEqual(view_rows(some_book, "eve", "few"), ())
+        self.assertEqual(summary_of(some_book, "bob", "most")[0], (("number", 1, 1), 1, ("number", 8, 1)))
+        told = page(some_book, "bob", "bills")
+        self.assertEqual(read_page(told)[0], tuple(("number", p, 1) for p in (1, 8, 8, 8)))
+        self.assertEqual(page(some_book, "eve", "bills"), "\n".join(["?;?;?;?"] * 25))
+        paper = paper_for(some_book, "bob", last)
+        self.assertEqual(len(paper), 100)
+        self.assertIs(paper_holds(some_book, last, paper), True)
+        self.assertIs(paper_holds(some_book, last, paper * 300), False)
+        self.assertEqual([len(paper_of(some_book, at("bills", *place_of(k, 4)))) for k in (0, 50, 98)], [1, 51, 99])
+
+    def test_each_cell_names_all_cells_and_is_shown(self):
+        six = call("sum", *[area("bills", 0, 0, 24, 3)] * 6)
+        tree = call("sum", six, six, six, six, six, call("sum", *[area("bills", 0, 0, 24, 3)] * 3))
+        some_book = self.shared({place_of(k, 4): ("=", tree) for k in range(100)}, tree)
+        self.assertEqual(seen(some_book, "bob", at("bills", 3, 3))[2], RING)
+        self.assertEqual(view_rows(some_book, "bob", "few"), ())
+        self.assertEqual(summary_of(some_book, "bob", "most"), ())
+        self.assertEqual(page(some_book, "bob", "bills"), "\n".join(["#ring;#ring;#ring;#ring"] * 25))
+        self.assertEqual(len(paper_for(some_book, "bob", at("bills", 3, 3))), 100)
 
 
 if __name__ == "__main__":

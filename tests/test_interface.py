@@ -26,6 +26,14 @@ INTERFACE = {
         "needs_in_all": ["book", "cell"],
     },
     "reckoning": {"changed": ["before", "after"], "reached": ["book", "cells"], "Reckoner": ["book"]},
+    "papers": {
+        "paper_of": ["book", "cell"], "paper_holds": ["book", "cell", "value"], "paper_for": ["book", "person", "cell"],
+    },
+    "seeing": {
+        "seen": ["book", "person", "cell"], "view_rows": ["book", "person", "name"],
+        "summary_of": ["book", "person", "name"],
+    },
+    "pages": {"page": ["book", "person", "sheet"], "read_page": ["text"]},
 }
 METHODS = {
     ("books", "Book"): {"__eq__": ["self", "other"]},
