@@ -3,6 +3,8 @@
 LETTERS = "abcdefghijklmnopqrstuvwxyz"
 FIGURES = "0123456789"
 EVERYBODY = "all"
+MOST_CLOCK = 999999
+MOST_NUMBER = 99
 
 
 def is_integer(value):
@@ -39,7 +41,15 @@ def is_mark(value):
     clock, person, life, number = value
     if person != "" and not is_name(person):
         return False
-    return is_number_to(clock, 999999) and is_number_to(life, 99) and is_number_to(number, 99)
+    return is_number_to(clock, MOST_CLOCK) and is_number_to(life, MOST_NUMBER) and is_number_to(number, MOST_NUMBER)
+
+
+def is_stamp(value):
+    """Whether it is a stamp: (clock, person, life)."""
+    if not is_tuple_of(value, 3):
+        return False
+    clock, person, life = value
+    return is_number_to(clock, MOST_CLOCK) and clock > 0 and is_person(person) and is_number_to(life, MOST_NUMBER)
 
 
 def is_ascending(things):

@@ -4,6 +4,7 @@ from ledgerloom.amounts import SIGNS, TRUTH_WORDS, number_from
 from ledgerloom.basics import FIGURES, LETTERS, named
 from ledgerloom.errors import InvalidText
 from ledgerloom.places import column_at, row_at
+from ledgerloom.walking import Walker
 
 # How much a sign binds, against the others; a minus ahead of one tree binds more than they all.
 BINDS = {"=": 0, "<": 0, "&": 1, "+": 2, "-": 2, "*": 3, "/": 3}
@@ -11,23 +12,21 @@ MINUS_BINDS = 4
 DEEPEST = 12
 
 
-class Reader:
-    """Goes through a text once, from its beginning, and makes the tree that could be printed so.
+class Reader(Walker):
+    """Goes through a text once and makes the tree that could be printed so.
 
     It is lax: also what is printed in another way, or is no tree, may come of a text. So the
     caller has to print what comes, and to compare.
     """
 
     def __init__(self, sheets, text):
+        super().__init__(text)
         self.sheets = sheets
-        self.text = text
-        self.at = 0
 
     def read_all(self):
         """The tree of the whole text."""
         tree = self.read_ops(1, 0)
-        if self.at < len(self.text):
-            raise InvalidText(self.text)
+        self.must_end()
         return tree
 
     def read_ops(self, deep, least):
@@ -104,29 +103,3 @@ class Reader:
         column = column_at(sheet, self.take_run(LETTERS))
         row = row_at(sheet, self.take_run(FIGURES))
         return row, column
-
-    def read_until(self, end):
-        """What stands ahead of the next such end; the end is taken, too."""
-        inside = self.text[self.at:].partition(end)[0]
-        self.at += len(inside)
-        self.must_take(end)
-        return inside
-
-    def take(self, part):
-        """Whether this part is what comes next; if so it is taken."""
-        if not self.text.startswith(part, self.at):
-            return False
-        self.at += len(part)
-        return True
-
-    def must_take(self, part):
-        """Takes this part, which has to come next."""
-        if not self.take(part):
-            raise InvalidText(self.text)
-
-    def take_run(self, signs):
-        """Takes as many of these characters as come next."""
-        start = self.at
-        while self.at < len(self.text) and self.text[self.at] in signs:
-            self.at += 1
-        return self.text[start:self.at]

@@ -145,7 +145,7 @@ def changed_sheets(chance, sheets):
 
 def some_rights(chance, sheets, persons):
     """Some rules, most of them about columns that are there."""
-    rules = [("all", sheet[0], None, "read") for sheet in sheets if chance.random() < 0.6]
+    rules = [("all", sheet[0], None, chance.choice(["read", "write"])) for sheet in sheets if chance.random() < 0.7]
     for _ in range(chance.randint(0, 5)):
         name, _, columns, _ = chance.choice(sheets)
         column = chance.choice([None, None, *columns, some_mark(chance)])
@@ -156,7 +156,7 @@ def some_rights(chance, sheets, persons):
 def some_condition(chance, sheets, name):
     """Some condition of a view of a sheet: in most trees many cells give way to those of the row."""
     columns = [column for sheet in sheets if sheet[0] == name for column in sheet[2]]
-    kind = chance.choice(["yes", "less", "any", "any"])
+    kind = chance.choice(["yes", "yes", "less", "less", "any"])
     if kind == "yes":
         return ("value", ("truth", 1))
     if kind == "less":

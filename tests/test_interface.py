@@ -34,10 +34,29 @@ INTERFACE = {
         "summary_of": ["book", "person", "name"],
     },
     "pages": {"page": ["book", "person", "sheet"], "read_page": ["text"]},
+    "deeds": {"is_deed": ["value"], "done": ["book", "stamp", "deed"]},
+    "copies": {
+        "book_of": ["book", "steps"], "void_of": ["book", "steps"], "off_of": ["book", "steps"],
+        "Copy": ["person", "life", "book"],
+    },
+    "stores": {
+        "told_of": ["value"], "value_told": ["text"], "stored": ["steps"], "recovered": ["row"], "tidied": ["steps"],
+    },
+    "office": {"Office": ["book", "people"]},
 }
 METHODS = {
     ("books", "Book"): {"__eq__": ["self", "other"]},
     ("reckoning", "Reckoner"): {"value": ["self", "cell"], "turn": ["self", "book"], "all_values": ["self"]},
+    ("copies", "Copy"): {
+        "do": ["self", "deed"], "undo": ["self", "stamp"], "redo": ["self", "stamp"], "hear": ["self", "steps"],
+    },
+    ("office", "Office"): {
+        "steps_of": ["self", "person"], "book_of": ["self", "person"], "store_of": ["self", "person"],
+        "do": ["self", "person", "deed"], "undo": ["self", "person", "stamp"], "redo": ["self", "person", "stamp"],
+        "send": ["self", "person", "other"], "crash": ["self", "person", "many"], "tidy": ["self", "person"],
+        "see": ["self", "person", "cell"], "watch": ["self", "person", "cell"], "watched": ["self", "person"],
+        "news": ["self", "person"],
+    },
 }
 
 

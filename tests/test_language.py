@@ -11,7 +11,7 @@ LIBRARY = {"heapq", "math", "itertools", "collections"}
 BUILTINS = set(
     "len range enumerate zip min max sum abs sorted reversed int str bool bytes list tuple dict set isinstance ord repr "
     "any all divmod pow map iter next ValueError TypeError KeyError IndexError LookupError ZeroDivisionError "
-    "NotImplemented".split()
+    "NotImplemented super".split()
 )
 METHODS = set(
     "append clear copy count endswith extend find get index insert isalnum isalpha isdigit islower isspace isupper items "
