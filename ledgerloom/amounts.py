@@ -167,13 +167,21 @@ def is_less(one, other):
         raise InvalidValue(one)
     if not is_value(other):
         raise InvalidValue(other)
+    return is_ahead(one, other)
+
+
+def is_ahead(one, other):
+    """The like of two things that are known to be values."""
     if rank_of(one) != rank_of(other):
         return rank_of(one) < rank_of(other)
     if one is None:
         return False
-    if one[0] == "number":
-        return one[1] * other[2] < other[1] * one[2]
-    return one[1] < other[1]
+    return is_below(one, other) if one[0] == "number" else one[1] < other[1]
+
+
+def is_below(one, other):
+    """Whether the one number is less than the other."""
+    return one[1] * other[2] < other[1] * one[2]
 
 
 def rank_of(value):

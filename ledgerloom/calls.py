@@ -1,6 +1,6 @@
 """What calls make of the values of their members."""
 
-from ledgerloom.amounts import is_error, is_less, number_value
+from ledgerloom.amounts import is_below, is_error, number_value
 
 
 def called(word, members):
@@ -47,4 +47,4 @@ def outermost(word, numbers):
 
 def is_further(word, number, found):
     """Whether a number is less than the one found, or for "most" greater."""
-    return is_less(number, found) if word == "least" else is_less(found, number)
+    return is_below(number, found) if word == "least" else is_below(found, number)

@@ -7,8 +7,9 @@ class Draft:
     """What a book holds.
 
     It stands wherever the owner, the sheets, the views, the summaries and the rights of a book are asked for.
-    A book looks at all that it is made of; a draft does not, so that many deeds are done fast. It is never
-    changed: each deed makes a new one.
+    A book looks at all that it is made of; a draft does not, so that many deeds are done fast. None of these
+    is ever changed: each deed makes a new draft. So which rows a view shows is kept, once it is reckoned: of
+    many deeds that cannot be done, all are done to one draft.
     """
 
     def __init__(self, owner, sheets, views, summaries, rights):
@@ -17,6 +18,7 @@ class Draft:
         self.views = views
         self.summaries = summaries
         self.rights = rights
+        self.rows_known = {}
 
 
 def draft_from(book):

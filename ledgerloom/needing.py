@@ -14,21 +14,36 @@ def tree_in(content):
     return content[1] if content is not None and content[0] == "=" else None
 
 
-def mentions_of(sheets, tree):
-    """What a tree or an area mentions, each cell as often as it stands there, None for each thing that is gone."""
-    if tree[0] not in ("cell", "area"):
-        return [cell for part in parts_of(tree) for cell in mentions_of(sheets, part)]
-    if is_gone(sheets, tree):
+def things_in(tree):
+    """The cells and areas that stand in a tree, itself among them, in order."""
+    if tree[0] in ("cell", "area"):
+        return [tree]
+    return [thing for part in parts_of(tree) for thing in things_in(part)]
+
+
+def mentioned_by(sheets, thing):
+    """The cells that a cell or an area of a tree mentions; None alone, if it is gone."""
+    if is_gone(sheets, thing):
         return [None]
-    return [tree[1:]] if tree[0] == "cell" else cells_of_area(sheets, tree)
+    return [thing[1:]] if thing[0] == "cell" else cells_of_area(sheets, thing)
+
+
+def mentions_of(sheets, tree):
+    """What a tree mentions, each cell as often as it stands there, None for each thing that is gone."""
+    return [cell for thing in things_in(tree) for cell in mentioned_by(sheets, thing)]
+
+
+def needed_of(sheets, tree):
+    """The cells that a tree mentions, ascending, each once."""
+    # A tree may name one great area many times: it is told out once.
+    things = list({thing: True for thing in things_in(tree)})
+    return sorted({cell for thing in things for cell in mentioned_by(sheets, thing) if cell is not None})
 
 
 def needed_by(sheets, content):
     """The cells that a cell with this content needs, ascending."""
     tree = tree_in(content)
-    if tree is None:
-        return []
-    return sorted({cell for cell in mentions_of(sheets, tree) if cell is not None})
+    return [] if tree is None else needed_of(sheets, tree)
 
 
 def needs_below(sheets, cells):

@@ -15,19 +15,13 @@ DEEPEST = 12
 class Reader(Walker):
     """Goes through a text once and makes the tree that could be printed so.
 
-    It is lax: also what is printed in another way, or is no tree, may come of a text. So the
-    caller has to print what comes, and to compare.
+    It is lax: also what is printed in another way, or is no tree, may come of a text, and what is left
+    of it is not looked at. So the caller has to print what comes, and to compare.
     """
 
     def __init__(self, sheets, text):
         super().__init__(text)
         self.sheets = sheets
-
-    def read_all(self):
-        """The tree of the whole text."""
-        tree = self.read_ops(1, 0)
-        self.must_end()
-        return tree
 
     def read_ops(self, deep, least):
         """The tree ahead, as far as the signs between its trees bind at least so much."""

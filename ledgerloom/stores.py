@@ -32,7 +32,7 @@ def value_told(text):
     """The plain value that is told so."""
     if not isinstance(text, str) or len(text) > LONGEST_TOLD:
         raise InvalidText(text)
-    value = Hearer("".join([text])).read_all()
+    value = Hearer(text).read_told(0)
     # Only the way back tells that nothing but the one way of telling is let.
     if not is_plain_value(value, 0) or text_told(value) != text:
         raise InvalidText(text)
@@ -122,7 +122,7 @@ def record_at(row, start):
 def step_in(record, table):
     """The step of a record, None if it is not whole and right."""
     body = record[:-CHECK_BYTES]
-    if len(record) < LENGTH_BYTES + CHECK_BYTES or number_of(body[:LENGTH_BYTES]) != len(body) - LENGTH_BYTES:
+    if number_of(body[:LENGTH_BYTES]) != len(body) - LENGTH_BYTES:
         return None
     if number_of(record[-CHECK_BYTES:]) != check_of(body, table):
         return None

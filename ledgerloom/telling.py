@@ -1,6 +1,6 @@
 """Plain values as texts, and such texts read again."""
 
-from ledgerloom.amounts import MOST_FIGURES, are_figures, may_stand_in_text
+from ledgerloom.amounts import GREATEST, are_figures, may_stand_in_text
 from ledgerloom.basics import FIGURES, is_integer
 from ledgerloom.errors import InvalidText
 from ledgerloom.walking import Walker
@@ -17,7 +17,7 @@ def is_plain_value(value, deep):
         return len(value) <= LONGEST_STRING and all([may_stand_in_text(letter) for letter in value])
     if isinstance(value, tuple):
         return deep < DEEPEST_NESTED and all([is_plain_value(member, deep + 1) for member in value])
-    return is_integer(value) and abs(value) < 10 ** MOST_FIGURES
+    return is_integer(value) and abs(value) <= GREATEST
 
 
 def text_told(value):
@@ -35,15 +35,9 @@ def text_told(value):
 class Hearer(Walker):
     """Goes through a text once and makes the value that could be told so.
 
-    It is lax: also what is told in another way, or is no plain value, may come of a text. So the
-    caller has to tell what comes, and to compare.
+    It is lax: also what is told in another way, or is no plain value, may come of a text, and what is left
+    of it is not looked at. So the caller has to tell what comes, and to compare.
     """
-
-    def read_all(self):
-        """The value of the whole text."""
-        value = self.read_told(0)
-        self.must_end()
-        return value
 
     def read_told(self, deep):
         """The value ahead, so many tuples standing around it."""

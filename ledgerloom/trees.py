@@ -133,7 +133,7 @@ def read_tree(book, text):
     """The tree that is printed so in this book."""
     if not isinstance(text, str):
         raise InvalidText(text)
-    tree = Reader(book.sheets, text).read_all()
+    tree = Reader(book.sheets, text).read_ops(1, 0)
     # Only the way back tells that nothing but the one way of printing is let.
     if not is_tree(tree) or print_of(book.sheets, tree) != text:
         raise InvalidText(text)

@@ -3,11 +3,11 @@
 Everywhere the values are those of the clear cells alone: so nothing can come to hang on any other one.
 """
 
-from ledgerloom.amounts import is_less
+from ledgerloom.amounts import is_ahead
 from ledgerloom.basics import named
 from ledgerloom.calls import is_number, sum_of
 from ledgerloom.meaning import YES, meaning_of
-from ledgerloom.needing import mentions_of
+from ledgerloom.needing import needed_of
 
 
 def rows_of_view(sheets, view, values):
@@ -23,8 +23,8 @@ def rows_of_view(sheets, view, values):
 
 def is_let(sheets, condition, values):
     """Whether the condition means yes, and all that it mentions is clear."""
-    mentioned = [cell for cell in mentions_of(sheets, condition) if cell is not None]
-    return all([cell in values for cell in mentioned]) and meaning_of(sheets, condition, values) == YES
+    is_clear = all([cell in values for cell in needed_of(sheets, condition)])
+    return is_clear and meaning_of(sheets, condition, values) == YES
 
 
 def in_row(tree, name, row):
@@ -57,21 +57,21 @@ def places_by(columns, words, many):
 def ranks_in(column, word):
     """For each of these values, how many of them stand ahead of it, "up" or "down"."""
     if word == "up":
-        return [len([other for other in column if is_less(other, value)]) for value in column]
-    return [len([other for other in column if is_less(value, other)]) for value in column]
+        return [len([other for other in column if is_ahead(other, value)]) for value in column]
+    return [len([other for other in column if is_ahead(value, other)]) for value in column]
 
 
 def groups_of_summary(sheets, views, summary, values):
     """The groups of a summary; none if something that it names is not there."""
     _, view_name, key, total = summary
     view = named(views, view_name)
-    sheet = None if view is None else named(sheets, view[1])
-    if sheet is None or key not in sheet[2] or total not in sheet[2]:
+    if view is None:
         return ()
     groups = {}
     for row in rows_of_view(sheets, view, values):
-        key_cell = (sheet[0], row, key)
-        total_cell = (sheet[0], row, total)
+        key_cell = (view[1], row, key)
+        total_cell = (view[1], row, total)
+        # So a column that is not there makes no group: it has no cells.
         if key_cell in values and total_cell in values:
             groups.setdefault(values[key_cell], []).append(values[total_cell])
     return tuple([group_of(value, groups[value]) for value in in_order(list(groups))])

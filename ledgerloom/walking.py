@@ -37,8 +37,3 @@ class Walker:
             raise InvalidText(self.text)
         self.at = found + len(end)
         return self.text[start:found]
-
-    def must_end(self):
-        """Nothing may be left."""
-        if self.at < len(self.text):
-            raise InvalidText(self.text)

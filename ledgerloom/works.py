@@ -163,8 +163,16 @@ def set_of_put(draft, person, deed):
     # Whoever may not write the column is refused ahead, since it takes long to reckon which rows the view shows.
     if view is None or right_on(draft, person, view[1], column) != "write":
         return None
-    rows = rows_of_view(draft.sheets, view, values_clear(draft, person, cells_of(draft.sheets)))
+    rows = rows_shown(draft, person, view)
     return ("set", view[1], rows[number], column, content) if number < len(rows) else None
+
+
+def rows_shown(draft, person, view):
+    """The rows that a view of the draft shows to the person."""
+    asked = (person, view[0])
+    if asked not in draft.rows_known:
+        draft.rows_known[asked] = rows_of_view(draft.sheets, view, values_clear(draft, person, cells_of(draft.sheets)))
+    return draft.rows_known[asked]
 
 
 def settled(draft, stamp, deed):

@@ -180,10 +180,14 @@ class CopyTest(unittest.TestCase):
     def test_refuses_what_is_not_to_be_undone_or_redone(self):
         copy = Copy("bob", 0, BOOK)
         on, off, undone = copy.do(setting(1))[0], copy.do(setting(2))[0], copy.undo((2, "bob", 0))[0]
-        copy.hear((put(4, 1, "ann"), put(5, 1, "bob", life=1), undo(6, 5, "bob", life=1), redo(7, 5, "bob", life=1)))
+        copy.hear((
+            put(4, 1, "ann"), put(5, 1, "bob", life=1), undo(6, 5, "bob", life=1, of_life=1),
+            redo(7, 5, "bob", life=1, of_life=1), put(8, 1, "eve"), undo(9, 8, "eve"),
+        ))
         again = (7, "bob", 1)
+        self.assertEqual(copy.off, (off, (8, "eve", 0)))
         wrong = [
-            undone, again, (6, "bob", 1), (4, "ann", 0), (8, "bob", 0), (1, "bob", 1), (1, "ann", 0), (99, "eve", 0), *NO_STAMPS,
+            undone, again, (8, "eve", 0), (9, "eve", 0), (6, "bob", 1), (4, "ann", 0), (8, "bob", 0), (1, "bob", 1), (1, "ann", 0), (99, "eve", 0), *NO_STAMPS,
             copy.steps[0], (True, "bob", 0), (1, "bob", False), [1, "bob", 0],
         ]
         for stamp in [off, *wrong]:

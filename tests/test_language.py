@@ -116,6 +116,8 @@ class LanguageTest(unittest.TestCase):
         for path, text, tree in files():
             for part in ast.walk(tree):
                 self.assertNotIsInstance(part, NEVER, path)
+                if isinstance(part, ast.BinOp) and isinstance(part.op, (ast.Pow, ast.Mod)):
+                    self.assertIsInstance(part.right, ast.Constant, (path, part.lineno))
                 if isinstance(part, ast.Constant):
                     self.assertNotIsInstance(part.value, (float, complex), path)
                     self.assertNotIn(chr(37), part.value if isinstance(part.value, str) else "", path)

@@ -126,9 +126,10 @@ class ReadPageTest(unittest.TestCase):
             self.assertTrue(is_plain(found))
 
     def barred(self, text):
-        with self.assertRaises(InvalidText) as caught:
-            read_page(text)
-        self.assertIs(caught.exception.value, text)
+        for same in (text, own(text)):
+            with self.assertRaises(InvalidText) as caught:
+                read_page(same)
+            self.assertIs(caught.exception.value, same)
 
     def test_some_texts(self):
         for text, told in (

@@ -49,9 +49,10 @@ class ToldOfTest(unittest.TestCase):
                 self.assertIs(type(found), str)
 
     def barred(self, value):
-        with self.assertRaises(InvalidValue) as caught:
-            told_of(value)
-        self.assertIs(caught.exception.value, value)
+        for same in (value, own(value)):
+            with self.assertRaises(InvalidValue) as caught:
+                told_of(same)
+            self.assertIs(caught.exception.value, same)
 
     def test_integers(self):
         for value in (10 ** 15, -(10 ** 15), 10 ** 30, -(10 ** 16), True, False):
@@ -135,9 +136,10 @@ class ValueToldTest(unittest.TestCase):
             self.assertTrue(is_plain(found))
 
     def barred(self, text):
-        with self.assertRaises(InvalidText) as caught:
-            value_told(text)
-        self.assertIs(caught.exception.value, text)
+        for same in (text, own(text)):
+            with self.assertRaises(InvalidText) as caught:
+                value_told(same)
+            self.assertIs(caught.exception.value, same)
 
     def test_there_and_back(self):
         for value, text in TOLD:
