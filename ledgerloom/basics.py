@@ -1,5 +1,7 @@
 """What every module asks of things: whether they are integers, names or marks, or ascending; and their plain copies."""
 
+from ledgerloom.errors import InvalidName
+
 LETTERS = "abcdefghijklmnopqrstuvwxyz"
 FIGURES = "0123456789"
 EVERYBODY = "all"
@@ -65,6 +67,14 @@ def named(things, name):
     return None
 
 
+def checked_named(things, name):
+    """The like of a name that has to be one of theirs."""
+    thing = named(things, name)
+    if thing is None:
+        raise InvalidName(name)
+    return thing
+
+
 def is_same(value, known):
     """Whether it is the same as a known thing of plain tuples, strings, integers and None, with no bool in it."""
     if isinstance(known, tuple):
@@ -88,3 +98,10 @@ def plain(value):
     if is_integer(value):
         return int(value)
     return value
+
+
+def checked_person(person):
+    """The plain name of a person, which it has to be."""
+    if not is_person(person):
+        raise InvalidName(person)
+    return plain(person)

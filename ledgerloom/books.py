@@ -1,8 +1,10 @@
 """Books: which sheets, views, summaries and rights there are, and what right a person has on a column."""
 
 from ledgerloom.amounts import is_value
-from ledgerloom.basics import EVERYBODY, is_ascending, is_mark, is_name, is_person, is_tuple_of, named, plain
-from ledgerloom.errors import InvalidMark, InvalidName, InvalidRights, InvalidSheets, InvalidViews
+from ledgerloom.basics import (
+    EVERYBODY, checked_named, checked_person, is_ascending, is_mark, is_name, is_tuple_of, plain,
+)
+from ledgerloom.errors import InvalidMark, InvalidRights, InvalidSheets, InvalidViews
 from ledgerloom.trees import is_condition, is_tree
 
 MOST_SHEETS = 4
@@ -20,8 +22,7 @@ class Book:
     """A workbook: who owns it, its sheets, their views and summaries, and who may read and write what."""
 
     def __init__(self, owner, sheets, views, summaries, rights):
-        if not is_person(owner):
-            raise InvalidName(owner)
+        self.owner = checked_person(owner)
         if not are_sheets(sheets):
             raise InvalidSheets(sheets)
         if not are_views(views):
@@ -30,7 +31,6 @@ class Book:
             raise InvalidViews(summaries)
         if not are_rights(rights):
             raise InvalidRights(rights)
-        self.owner = plain(owner)
         self.sheets = plain(sheets)
         self.views = plain(views)
         self.summaries = plain(summaries)
@@ -148,11 +148,8 @@ def is_rule(value):
 
 def right_of(book, person, sheet, column):
     """The right of the person on a column of a sheet of the book."""
-    if not is_person(person):
-        raise InvalidName(person)
-    found = named(book.sheets, sheet)
-    if found is None:
-        raise InvalidName(sheet)
+    checked_person(person)
+    found = checked_named(book.sheets, sheet)
     if not is_mark(column) or column not in found[2]:
         raise InvalidMark(column)
     return right_on(book, person, sheet, column)

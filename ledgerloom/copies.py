@@ -1,9 +1,9 @@
 """Copies of a book: what comes of it by steps, however they come to be known."""
 
-from ledgerloom.basics import MOST_NUMBER, is_number_to, is_person, is_stamp, plain
+from ledgerloom.basics import MOST_NUMBER, checked_person, is_number_to, is_stamp, plain
 from ledgerloom.deeds import is_deed
 from ledgerloom.drafts import book_from
-from ledgerloom.errors import InvalidDeed, InvalidName, InvalidNumber, InvalidStamp
+from ledgerloom.errors import InvalidDeed, InvalidNumber, InvalidStamp
 from ledgerloom.steps import (
     REDO, UNDO, History, are_steps_in_order, by_stamp, in_step_order, is_step, is_undoing, off_among,
 )
@@ -44,11 +44,9 @@ class Copy:
     """A person's own copy of a book: whatever steps it comes to know, it does them all in their order."""
 
     def __init__(self, person, life, book):
-        if not is_person(person):
-            raise InvalidName(person)
+        self.person = checked_person(person)
         if not is_number_to(life, MOST_NUMBER):
             raise InvalidNumber(life)
-        self.person = plain(person)
         self.life = plain(life)
         self.history = History(book)
         self.steps = ()

@@ -1,9 +1,9 @@
 """Pages: sheets written out for a person, and read in."""
 
 from ledgerloom.amounts import is_written, read_value, written
-from ledgerloom.basics import is_person, named
+from ledgerloom.basics import checked_named, checked_person
 from ledgerloom.clearness import values_clear
-from ledgerloom.errors import InvalidName, InvalidText
+from ledgerloom.errors import InvalidText
 
 LONGEST_PAGE = 20000
 VEIL = "?"
@@ -11,12 +11,8 @@ VEIL = "?"
 
 def page(book, person, sheet):
     """The page of a sheet of the book for the person."""
-    if not is_person(person):
-        raise InvalidName(person)
-    found = named(book.sheets, sheet)
-    if found is None:
-        raise InvalidName(sheet)
-    name, rows, columns, _ = found
+    checked_person(person)
+    name, rows, columns, _ = checked_named(book.sheets, sheet)
     cells = [(name, row, column) for row in rows for column in columns]
     values = values_clear(book, person, cells)
     lines = [[entry_of((name, row, column), values) for column in columns] for row in rows]

@@ -1,8 +1,8 @@
 """Papers: the values from which that of a cell is seen to be what it is."""
 
-from ledgerloom.basics import is_person, is_same
+from ledgerloom.basics import checked_person, is_same
 from ledgerloom.clearness import is_clear
-from ledgerloom.errors import InvalidName, Undefined
+from ledgerloom.errors import Undefined
 from ledgerloom.meaning import values_with
 from ledgerloom.needing import needs_below
 from ledgerloom.places import checked_cell, is_cell
@@ -22,8 +22,7 @@ def paper_holds(book, cell, value):
 
 def paper_for(book, person, cell):
     """The paper for a cell of the book that is clear to the person."""
-    if not is_person(person):
-        raise InvalidName(person)
+    checked_person(person)
     known_cell = checked_cell(book.sheets, cell)
     if not is_clear(book, person, known_cell):
         raise Undefined("veiled")

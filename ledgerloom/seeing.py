@@ -1,9 +1,8 @@
 """What a person is shown: cells, the rows of views, and summaries."""
 
 from ledgerloom.amounts import written
-from ledgerloom.basics import is_person, named
+from ledgerloom.basics import checked_named, checked_person
 from ledgerloom.clearness import is_open, values_clear
-from ledgerloom.errors import InvalidName
 from ledgerloom.needing import contents_of, tree_in
 from ledgerloom.places import cells_of, checked_cell
 from ledgerloom.trees import print_of
@@ -12,8 +11,7 @@ from ledgerloom.views import groups_of_summary, rows_of_view
 
 def seen(book, person, cell):
     """What the person is shown of a cell of the book."""
-    if not is_person(person):
-        raise InvalidName(person)
+    checked_person(person)
     known_cell = checked_cell(book.sheets, cell)
     return seen_of(book, person, [known_cell])[known_cell]
 
@@ -41,20 +39,14 @@ def told_of_content(sheets, content):
 
 def view_rows(book, person, name):
     """The rows that the view of this name shows to the person."""
-    if not is_person(person):
-        raise InvalidName(person)
-    view = named(book.views, name)
-    if view is None:
-        raise InvalidName(name)
+    checked_person(person)
+    view = checked_named(book.views, name)
     return rows_of_view(book.sheets, view, values_clear(book, person, cells_of(book.sheets)))
 
 
 def summary_of(book, person, name):
     """The groups of the summary of this name, as far as the person may read."""
-    if not is_person(person):
-        raise InvalidName(person)
-    summary = named(book.summaries, name)
-    if summary is None:
-        raise InvalidName(name)
+    checked_person(person)
+    summary = checked_named(book.summaries, name)
     values = values_clear(book, person, cells_of(book.sheets))
     return groups_of_summary(book.sheets, book.views, summary, values)
