@@ -1,5 +1,7 @@
 """The office told once more, as plainly as it goes: what the package's offices do is compared with this."""
 
+from functools import lru_cache
+
 from ledgerloom.stores import told_of
 from tests import model, model_deeds, model_shown
 
@@ -24,6 +26,7 @@ def record_of_text(told):
     return tuple(body + [check // 256, check % 256])
 
 
+@lru_cache(maxsize=None)
 def record_of(step):
     """The record of a step."""
     return record_of_text(told_of(step))

@@ -2,6 +2,7 @@
 
 import random
 import unittest
+from binascii import crc_hqx
 
 from ledgerloom.errors import InvalidBytes, InvalidStamp
 from ledgerloom.stores import recovered, stored, tidied, told_of
@@ -29,14 +30,22 @@ class CheckTest(unittest.TestCase):
         # The known check of this name of numbers.
         self.assertEqual(check_of([ord(sign) for sign in "123456789"]), 0x29B1)
 
+    def test_checks_as_pythons_library_reckons_them(self):
+        dice = random.Random(16)
+        for many in (0, 1, 2, 3, 10, 100):
+            for _ in range(20):
+                row = [dice.randint(0, 255) for _ in range(many)]
+                self.assertEqual(check_of(row), crc_hqx(bytes(row), 65535))
+
     def test_a_store_by_hand(self):
         step = ((1, "a", 0), ("sheet", "b"))
         told = '((1, "a", 0), ("sheet", "b"))'
         self.assertEqual(len(told), 29)
-        body = [0, 0, 29, *[ord(sign) for sign in told]]
-        found = stored((step,))
-        self.assertEqual(found[:-2], tuple(body))
-        self.assertEqual(found[-2] * 256 + found[-1], check_of(body))
+        body = (0, 0, 29, *[ord(sign) for sign in told])
+        self.assertEqual(stored((step,)), (*body, 103, 8))
+        self.assertEqual(check_of(body), 103 * 256 + 8)
+        self.assertEqual(recovered((*body, 103, 8)), ((step,), 34))
+        self.assertEqual(recovered((*body, 8, 103)), ((), 0))
 
 
 class StoredTest(unittest.TestCase):

@@ -125,6 +125,8 @@ class OfficeTest(unittest.TestCase):
                     told[person].update(found)
                     self.assertEqual(tuple(sorted(told[person].items())), office.watched(person))
                 for other in PEOPLE:
+                    self.assertEqual(office.steps_of(other), desks.desks[other].steps())
+                    self.assertEqual(office.store_of(other), store_of(desks.desks[other].kept))
                     if word != "crash" or other != person:
                         self.assertLessEqual(known[other], set(office.steps_of(other)))
             self.is_as_told(office, desks)
