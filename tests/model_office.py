@@ -76,7 +76,8 @@ class ModelOffice:
 
     def may_undo(self, person, stamp, is_off):
         """Whether the person may undo, or do again, the step of this stamp."""
-        own = [step[0] for step in self.desks[person].kept if step[1][0] not in ("undo", "redo") and step[0][1] == person]
+        deeds = [step[0] for step in self.desks[person].kept if step[1][0] not in ("undo", "redo")]
+        own = [other for other in deeds if other[1] == person]
         return stamp in own and (stamp in self.outcome(person)[2]) == is_off
 
     def send(self, person, other):

@@ -109,7 +109,8 @@ class CopyTest(unittest.TestCase):
             self.assertEqual(copy.do(own(deed[:4] + (content,)))[1], ("set", *at("bills", 1, 1), content))
             self.assertEqual(copy.steps[-1][1], ("set", *at("bills", 1, 1), content))
             self.tells(copy)
-        bad = [("put", "few", 1, COLUMNS[1], n(5)), ("put", "few", 0, COLUMNS[2], n(5)), ("put", "more", 0, COLUMNS[1], n(5))]
+        bad = [("put", "few", 1, COLUMNS[1], n(5)), ("put", "few", 0, COLUMNS[2], n(5)),
+            ("put", "more", 0, COLUMNS[1], n(5))]
         for deed in bad:
             self.assertEqual(copy.do(deed)[1], deed)
             self.assertEqual(copy.void[-1], copy.steps[-1][0])
@@ -137,7 +138,8 @@ class CopyTest(unittest.TestCase):
     def test_refuses_what_is_no_deed(self):
         copy = Copy("bob", 0, BOOK)
         copy.do(setting(1))
-        for deed in [None, (), ("undo", (1, "bob", 0)), ("redo", (1, "bob", 0)), list(setting(1)), copy.steps[0], *ODD_THINGS,
+        for deed in [None, (), ("undo", (1, "bob", 0)), ("redo", (1, "bob", 0)), list(setting(1)), copy.steps[0],
+            *ODD_THINGS,
                      ("rows", "bills", None, 6), ("set", *at("bills", 0, 0), None)]:
             self.refuses(InvalidDeed, deed, copy.do, copy)
 
@@ -187,7 +189,8 @@ class CopyTest(unittest.TestCase):
         again = (7, "bob", 1)
         self.assertEqual(copy.off, (off, (8, "eve", 0)))
         wrong = [
-            undone, again, (8, "eve", 0), (9, "eve", 0), (6, "bob", 1), (4, "ann", 0), (8, "bob", 0), (1, "bob", 1), (1, "ann", 0), (99, "eve", 0), *NO_STAMPS,
+            undone, again, (8, "eve", 0), (9, "eve", 0), (6, "bob", 1), (4, "ann", 0), (8, "bob", 0), (1, "bob", 1),
+            (1, "ann", 0), (99, "eve", 0), *NO_STAMPS,
             copy.steps[0], (True, "bob", 0), (1, "bob", False), [1, "bob", 0],
         ]
         for stamp in [off, *wrong]:
@@ -206,7 +209,8 @@ class CopyTest(unittest.TestCase):
         self.assertEqual(copy.steps, (steps[1], steps[0]))
         self.tells(copy)
         for heard, many in (
-            ((), 0), (steps[:2], 0), (steps[1:3], 1), (steps, 1), (steps * 3, 0), (copy.steps, 0), (tuple(reversed(steps)), 0)
+            ((), 0), (steps[:2], 0), (steps[1:3], 1), (steps, 1), (steps * 3, 0), (copy.steps, 0),
+            (tuple(reversed(steps)), 0)
         ):
             self.assertEqual(copy.hear(heard), many)
             self.tells(copy)
@@ -230,7 +234,8 @@ class CopyTest(unittest.TestCase):
         copy.hear((put(5, 5, "ann"), undo(6, 5, "ann")))
         for steps in (
             (put(1, 2, "bob"),), (put(5, 6, "ann"),), (put(9, 9), put(5, 6, "ann")), (put(9, 9), put(9, 8)),
-            (undo(6, 4, "ann"),), (redo(6, 5, "ann"),), (put(9, 9), put(8, 8), undo(9, 1)), (put(5, 5, "ann"), undo(5, 1, "ann")),
+            (undo(6, 4, "ann"),), (redo(6, 5, "ann"),), (put(9, 9), put(8, 8), undo(9, 1)),
+            (put(5, 5, "ann"), undo(5, 1, "ann")),
             (((5, "ann", 0), ("clear", *at("bills", 0, 0))),),
         ):
             self.refuses(InvalidStamp, steps, copy.hear, copy)
@@ -239,7 +244,8 @@ class CopyTest(unittest.TestCase):
         copy = Copy("bob", 0, BOOK)
         copy.do(setting(1))
         one = put(5, 5)
-        for steps in [None, [], [one], one, ((5, "ann", 0),), (one, None), (None, one), (list(one),), ((one[1], one[0]),),
+        for steps in [None, [], [one], one, ((5, "ann", 0),), (one, None), (None, one), (list(one),),
+            ((one[1], one[0]),),
                       ((one[0], ("undo", None)),), (one[0],), (one, (one[0], None)), "steps", {1: one}, *ODD_THINGS]:
             if steps != ():
                 self.refuses(InvalidStamp, steps, copy.hear, copy)
@@ -351,7 +357,8 @@ class ManyCopiesTest(unittest.TestCase):
             call = dice.choice([copy.do, copy.undo, copy.redo, copy.hear])
             stamp = chance_deeds.some_stamp(dice, 10)
             try:
-                call(dice.choice([stamp, chance_deeds.some_deed(dice, copy.book), (put(*stamp[:1], 7, *stamp[1:2]),), None]))
+                call(dice.choice([stamp, chance_deeds.some_deed(dice, copy.book),
+                    (put(*stamp[:1], 7, *stamp[1:2]),), None]))
             except BookError:
                 raised += 1
                 self.assertEqual(state(copy), before)

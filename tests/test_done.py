@@ -118,7 +118,8 @@ class DoneTest(unittest.TestCase):
     def test_rows_and_columns_taken_out_with_their_cells(self):
         for place in range(3):
             self.both(("unrow", "bills", ROWS[place]), lambda _: of(
-                ("bills", ROWS[:place] + ROWS[place + 1:3], COLUMNS[:3], tuple(one for one in BILLS[3] if one[0] != ROWS[place])),
+                ("bills", ROWS[:place] + ROWS[place + 1:3], COLUMNS[:3],
+                    tuple(one for one in BILLS[3] if one[0] != ROWS[place])),
                 NOTES,
             ))
             self.both(("uncolumn", "bills", COLUMNS[place]), lambda _: of(
@@ -126,7 +127,8 @@ class DoneTest(unittest.TestCase):
                  tuple(one for one in BILLS[3] if one[1] != COLUMNS[place])), NOTES,
             ))
         for deed in (
-            ("unrow", "bills", ROWS[3]), ("unrow", "bills", A), ("uncolumn", "bills", COLUMNS[3]), ("unrow", "none", ROWS[0]),
+            ("unrow", "bills", ROWS[3]), ("unrow", "bills", A), ("uncolumn", "bills", COLUMNS[3]),
+            ("unrow", "none", ROWS[0]),
             ("uncolumn", "bills", ROWS[0]), ("uncolumn", "none", A),
         ):
             self.void(deed)
@@ -182,9 +184,10 @@ class DoneTest(unittest.TestCase):
     def test_put_by_the_rows_as_the_stamps_person_has_them(self):
         views = (("few", "bills", ("op", "<", ("here", A), number(9)), ((B, "up"),)),)
         some_sheet = sheet("bills", 3, 3, {
-            (0, 0): ONE, (0, 1): TWO, (1, 0): ("=", cell("bills", 0, 1)), (1, 1): ONE, (2, 0): ONE, (2, 1): ("number", 0, 1)
+            (0, 0): ONE, (0, 1): TWO, (1, 0): ("=", cell("bills", 0, 1)), (1, 1): ONE, (2, 0): ONE,
+            (2, 1): ("number", 0, 1)
         })
-        # bob may not read the second column: the second row's key is veiled for him, and the order is that of the sheet.
+        # bob may not read the second column: the key of the second row is veiled for him; the rest stand as they are.
         rights = (("bob", "bills", A, "read"), ("bob", "bills", C, "write"))
         some_book = of(some_sheet, rights=rights, views=views)
         for place, rows in ((0, (2, 0)), (1, (1, 2)), (2, (0, None))):
@@ -249,7 +252,8 @@ class DoneTest(unittest.TestCase):
             self.void(("unrule", place), ANN, of(BILLS, NOTES, rights=rights))
         self.void(("unrule", 0), ANN, of(BILLS, NOTES, rights=()))
         for deed in (
-            ("sheet", "z"), ("unsheet", "notes"), ("summary", new), ("unsummary", "most"), ("rule", WRITE[0]), ("unrule", 0)
+            ("sheet", "z"), ("unsheet", "notes"), ("summary", new), ("unsummary", "most"), ("rule", WRITE[0]),
+            ("unrule", 0)
         ):
             self.does(deed)
             everywhere = WRITE + tuple(("all", name, None, "write") for name in ("notes", "z", "none"))
@@ -275,7 +279,8 @@ class DoneTest(unittest.TestCase):
 
     def test_who_may_write_all_columns(self):
         deeds = [
-            ("rows", "bills", None, 1), ("unrow", "bills", ROWS[0]), ("moverow", "bills", ROWS[1], None), ("unview", "few"),
+            ("rows", "bills", None, 1), ("unrow", "bills", ROWS[0]), ("moverow", "bills", ROWS[1], None),
+            ("unview", "few"),
             ("columns", "bills", B, 2), ("uncolumn", "bills", B), ("movecolumn", "bills", B, C), ("view", VIEWS[0]),
         ]
         each = tuple(("bob", "bills", column, "write") for column in COLUMNS[:3])
@@ -296,7 +301,8 @@ class DoneTest(unittest.TestCase):
     def test_a_sheet_without_columns(self):
         bare = ("bills", ROWS[:2], (), ())
         for rights, may in (
-            ((), False), (WRITE, True), ((("all", "bills", None, "write"),), True), ((("bob", "bills", A, "write"),), False),
+            ((), False), (WRITE, True), ((("all", "bills", None, "write"),), True),
+            ((("bob", "bills", A, "write"),), False),
             (WRITE + (("bob", "bills", A, "none"),), True), (WRITE + (("all", "bills", None, "read"),), False),
             ((("bob", "bills", None, "none"), ("all", "bills", None, "write")), True),
             (WRITE + (("bob", "notes", None, "none"), ("eve", "bills", None, "none")), True),
@@ -304,7 +310,8 @@ class DoneTest(unittest.TestCase):
         ):
             some_book = of(bare, NOTES, rights=rights)
             for deed in (
-                ("columns", "bills", None, 2), ("rows", "bills", ROWS[0], 2), ("unrow", "bills", ROWS[1]), ("view", VIEWS[0]),
+                ("columns", "bills", None, 2), ("rows", "bills", ROWS[0], 2), ("unrow", "bills", ROWS[1]),
+                ("view", VIEWS[0]),
                 ("moverow", "bills", ROWS[1], None), ("unview", "few"),
             ):
                 self.does(deed, ANN, some_book)
@@ -316,9 +323,12 @@ class DoneTest(unittest.TestCase):
     def test_too_many_rows_columns_and_places(self):
         for rows, columns, word, many, may in (
             (25, 0, "rows", 5, True), (26, 0, "rows", 5, False), (30, 1, "rows", 1, False), (29, 3, "rows", 1, True),
-            (0, 7, "columns", 5, True), (0, 8, "columns", 5, False), (8, 12, "columns", 1, False), (8, 11, "columns", 1, True),
-            (20, 4, "rows", 5, True), (21, 4, "rows", 5, False), (20, 4, "columns", 1, True), (20, 4, "columns", 2, False),
-            (25, 4, "rows", 1, False), (25, 3, "columns", 1, True), (25, 0, "columns", 4, True), (25, 0, "columns", 5, False),
+            (0, 7, "columns", 5, True), (0, 8, "columns", 5, False), (8, 12, "columns", 1, False),
+            (8, 11, "columns", 1, True),
+            (20, 4, "rows", 5, True), (21, 4, "rows", 5, False), (20, 4, "columns", 1, True),
+            (20, 4, "columns", 2, False),
+            (25, 4, "rows", 1, False), (25, 3, "columns", 1, True), (25, 0, "columns", 4, True),
+            (25, 0, "columns", 5, False),
         ):
             some_book = of(sheet("bills", rows, columns, {}))
             told = self.does if may else self.void
@@ -348,7 +358,8 @@ class DoneTest(unittest.TestCase):
     def test_what_stands_within_may_be_gone(self):
         for deed in (
             ("set", *at("bills", 0, 0), ("=", call("sum", area("none", 0, 0, 9, 9)))),
-            ("view", ("z", "bills", cell("none", 0, 0), ((COLUMNS[20], "up"),))), ("summary", ("z", "none", COLUMNS[20], A)),
+            ("view", ("z", "bills", cell("none", 0, 0), ((COLUMNS[20], "up"),))),
+            ("summary", ("z", "none", COLUMNS[20], A)),
             ("rule", ("nobody", "none", COLUMNS[20], "write")), ("put", "few", 0, A, ("=", cell("bills", 9, 9))),
         ):
             self.does(deed)
@@ -389,7 +400,8 @@ class DoneTest(unittest.TestCase):
     def test_refuses_what_is_no_deed_ahead_of_what_is_void(self):
         for stamp in (ANN, BOB, (1, "nobody", 0)):
             for deed in [
-                None, (), ("sheet",), ("sheet", "Z"), ("undo", ANN), ("redo", ANN), ["sheet", "z"], ("rows", "bills", None, 6),
+                None, (), ("sheet",), ("sheet", "Z"), ("undo", ANN), ("redo", ANN), ["sheet", "z"],
+                ("rows", "bills", None, 6),
                 ("set", *at("none", 0, 0), None), ("unrule", 100), ("put", "few", 100, A, ONE), *ODD_THINGS,
             ]:
                 self.refuses(InvalidDeed, deed, stamp, deed)

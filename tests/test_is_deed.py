@@ -4,7 +4,8 @@ import unittest
 
 from ledgerloom.deeds import is_deed
 from tests.helper import (
-    COLUMNS, ODD_THINGS, ROWS, VALUES_IN_ORDER, WRONG_EVERYWHERE, area, bush, call, cell, chain, found_at, nested, number,
+    COLUMNS, ODD_THINGS, ROWS, VALUES_IN_ORDER, WRONG_EVERYWHERE, area, bush, call, cell, chain, found_at, nested,
+    number,
     own, paths, put_at, text, truth,
 )
 
@@ -15,19 +16,22 @@ VIEW = ("few", "bills", ("op", "<", ("here", C), number(1)), ((C, "up"), (COLUMN
 SUMMARY = ("most", "few", C, COLUMNS[1])
 RULE = ("bob", "bills", C, "write")
 DEEDS = [
-    ("sheet", "bills"), ("unsheet", "bills"), ("rows", "bills", R, 2), ("rows", "bills", None, 1), ("unrow", "bills", R),
+    ("sheet", "bills"), ("unsheet", "bills"), ("rows", "bills", R, 2), ("rows", "bills", None, 1),
+    ("unrow", "bills", R),
     ("moverow", "bills", R, ROWS[1]), ("moverow", "bills", R, None), ("columns", "bills", C, 5),
     ("columns", "bills", None, 3), ("uncolumn", "bills", C), ("movecolumn", "bills", C, COLUMNS[1]),
     ("movecolumn", "bills", C, None), ("set", "bills", R, C, ONE), ("set", "bills", R, C, ("=", TREE)),
     ("clear", "bills", R, C), ("put", "few", 0, C, ("text", "a")), ("put", "few", 99, C, ("=", TREE)), ("view", VIEW),
-    ("unview", "few"), ("summary", SUMMARY), ("unsummary", "most"), ("rule", RULE), ("rule", ("all", "bills", None, "none")),
+    ("unview", "few"), ("summary", SUMMARY), ("unsummary", "most"), ("rule", RULE),
+    ("rule", ("all", "bills", None, "none")),
     ("unrule", 0), ("unrule", 99),
 ]
 WORDS = {
     "sheet", "unsheet", "rows", "unrow", "moverow", "columns", "uncolumn", "movecolumn", "set", "clear", "put", "view",
     "unview", "summary", "unsummary", "rule", "unrule",
 }
-NO_MARKS = ["", "a", 0, 1, (), C[:3], C + (0,), list(C), (True, "", 0, 0), (1, "", 0, 100), (1000000, "", 0, 0), (None,)]
+NO_MARKS = ["", "a", 0, 1, (), C[:3], C + (0,), list(C), (True, "", 0, 0), (1, "", 0, 100), (1000000, "", 0, 0),
+    (None,)]
 NO_NAMES = ["", "Bills", "b1", "abcdefghi", None, 1, True, ("bills",), ["bills"], b"bills", "b b"]
 
 
@@ -57,7 +61,8 @@ class IsDeedTest(unittest.TestCase):
 
     def test_words(self):
         for deed in DEEDS:
-            for word in ["", "Set", "sets", "undo", "redo", "row", "column", None, 0, True, ("set",), ["set"], *ODD_THINGS]:
+            for word in ["", "Set", "sets", "undo", "redo", "row", "column", None, 0, True, ("set",), ["set"],
+                *ODD_THINGS]:
                 self.barred((word,) + deed[1:])
 
     def test_words_of_others(self):
@@ -120,7 +125,8 @@ class IsDeedTest(unittest.TestCase):
         good = [value for value in VALUES_IN_ORDER if value is not None]
         good += [("=", tree) for tree in (TREE, bush(40), chain(12), text("a"), cell("none", 9, 9))]
         bad = [
-            None, 1, "1", "", (), ("=",), ("=", TREE, TREE), ("=", ONE), ("=", None), ["=", TREE], ("=", list(TREE)), TREE,
+            None, 1, "1", "", (), ("=",), ("=", TREE, TREE), ("=", ONE), ("=", None), ["=", TREE],
+            ("=", list(TREE)), TREE,
             ("=", ("here", C)), ("=", ("minus", ("here", C))), ("=", area("bills", 0, 0, 0, 0)), ("=", bush(41)),
             ("=", chain(13)), ("==", TREE), ("number", 2, 4), ("number", True, 1), ("truth", 2), ("truth", True),
             ("text", "a" * 41), ("error", "none"), ("value", ONE), nested(60), *ODD_THINGS,
@@ -134,13 +140,15 @@ class IsDeedTest(unittest.TestCase):
     def test_views(self):
         for view in (
             ("a", "none", truth(1), ()), ("few", "bills", ("here", C), tuple((column, "up") for column in COLUMNS[:3])),
-            ("few", "bills", bush(40), ()), ("few", "bills", chain(12), ()), ("few", "bills", call("sum", TREE[3][2][0]), ()),
+            ("few", "bills", bush(40), ()), ("few", "bills", chain(12), ()),
+            ("few", "bills", call("sum", TREE[3][2][0]), ()),
         ):
             self.let(("view", view))
         for view in (
             None, "few", (), VIEW[:3], VIEW + (None,), list(VIEW), ("", *VIEW[1:]), ("few", None, *VIEW[2:]),
             ("few", "bills", None, ()), ("few", "bills", ("=", TREE), ()), ("few", "bills", bush(41), ()),
-            ("few", "bills", chain(13), ()), ("few", "bills", TREE, None), ("few", "bills", TREE, ((C, "up"), (C, "down"))),
+            ("few", "bills", chain(13), ()), ("few", "bills", TREE, None),
+            ("few", "bills", TREE, ((C, "up"), (C, "down"))),
             ("few", "bills", TREE, ((C, "Up"),)), ("few", "bills", TREE, [(C, "up")]), (VIEW,), SUMMARY, RULE,
             ("few", "bills", TREE, tuple((column, "up") for column in COLUMNS[:4])), *ODD_THINGS,
         ):
@@ -148,7 +156,8 @@ class IsDeedTest(unittest.TestCase):
 
     def test_summaries_and_rules(self):
         self.let(("summary", ("all", "none", C, C)))
-        for summary in (None, "most", (), SUMMARY[:3], SUMMARY + (C,), list(SUMMARY), VIEW, RULE, (SUMMARY,), *ODD_THINGS,
+        for summary in (None, "most", (), SUMMARY[:3], SUMMARY + (C,), list(SUMMARY), VIEW, RULE, (SUMMARY,),
+            *ODD_THINGS,
                         ("most", "few", C, None), ("most", "few", None, C), ("most", 1, C, C), ("Most", "few", C, C)):
             self.barred(("summary", summary))
         for word in ("none", "read", "write"):
@@ -179,7 +188,8 @@ class IsDeedTest(unittest.TestCase):
         for _ in range(20000):
             deep = (deep,)
         for thing in [*ODD_THINGS, None, deep, ("set",), ("undo", (1, "ann", 0)), ("redo", (1, "ann", 0)), {"set": 1},
-                      ((1, "ann", 0), DEEDS[0]), DEEDS[:1], DEEDS[0][0], 1.5, b"set", ("set",) * 5, ("set", deep, R, C, deep)]:
+                      ((1, "ann", 0), DEEDS[0]), DEEDS[:1], DEEDS[0][0], 1.5, b"set", ("set",) * 5,
+                      ("set", deep, R, C, deep)]:
             self.barred(thing)
 
     def test_by_name(self):

@@ -17,7 +17,8 @@ BOOK = book(
     rights=(("all", "bills", None, "write"),),
 )
 PEOPLE = ("ann", "bob", "eve")
-NOBODY = ["dan", "al", "all", "annn", "an", OwnText("all"), "Ann", *NO_PERSONS, *[thing for thing in ODD_THINGS if thing != "ann"]]
+NOBODY = ["dan", "al", "all", "annn", "an", OwnText("all"), "Ann", *NO_PERSONS,
+    *[thing for thing in ODD_THINGS if thing != "ann"]]
 CELL = at("bills", 0, 0)
 
 
@@ -68,8 +69,10 @@ class OfficeTest(unittest.TestCase):
 
     def test_refuses_people(self):
         for people in [
-            (), ("a", "b", "c", "d", "e"), ("b", "a"), ("a", "a"), ("a", "b", "b"), ("all",), ("al", "all"), ("a", "all", "b"),
-            ("ann", None), (None,), ("Ann",), ("",), ("ann", 1), (1,), (True,), "ann", None, ["ann"], ["ann", "bob"], ("abcdefghi",),
+            (), ("a", "b", "c", "d", "e"), ("b", "a"), ("a", "a"), ("a", "b", "b"), ("all",), ("al", "all"),
+            ("a", "all", "b"),
+            ("ann", None), (None,), ("Ann",), ("",), ("ann", 1), (1,), (True,), "ann", None, ["ann"],
+            ["ann", "bob"], ("abcdefghi",),
             ("ann", ("bob",)), {"ann": 1}, b"ann", (b"ann",), ("ann", "bob", "eve", "dan"),
             *[thing for thing in ODD_THINGS if thing not in (("number",), ("value",))],
         ]:
@@ -127,7 +130,8 @@ class OfficeTest(unittest.TestCase):
         self.assertEqual(office.do("eve", setting(9))[0], (1, "eve", 0))
         self.assertEqual(office.send("eve", "ann"), 1)
         self.assertEqual(office.send("ann", "eve"), 4)
-        self.assertEqual(office.store_of("eve")[len(store_of([((1, "eve", 0), setting(9))])):], store_of([one, two, three, four]))
+        self.assertEqual(office.store_of("eve")[len(store_of([((1, "eve", 0), setting(9))])):],
+            store_of([one, two, three, four]))
         self.assertEqual(office.book_of("ann"), office.book_of("eve"))
         self.assertIs(type(office.send("ann", "eve")), int)
 
@@ -224,9 +228,12 @@ class OfficeTest(unittest.TestCase):
         office = self.led()
         for person in NOBODY:
             for call, arguments in (
-                ("steps_of", ()), ("book_of", ()), ("store_of", ()), ("do", (setting(1),)), ("do", (None,)), ("undo", ((1, "bob", 0),)),
-                ("undo", (None,)), ("redo", ((1, "bob", 0),)), ("redo", (None,)), ("send", ("ann",)), ("send", ("dan",)),
-                ("crash", (0,)), ("crash", (None,)), ("tidy", ()), ("see", (CELL,)), ("see", (None,)), ("watch", (CELL,)),
+                ("steps_of", ()), ("book_of", ()), ("store_of", ()), ("do", (setting(1),)), ("do", (None,)),
+                ("undo", ((1, "bob", 0),)),
+                ("undo", (None,)), ("redo", ((1, "bob", 0),)), ("redo", (None,)), ("send", ("ann",)),
+                ("send", ("dan",)),
+                ("crash", (0,)), ("crash", (None,)), ("tidy", ()), ("see", (CELL,)), ("see", (None,)),
+                ("watch", (CELL,)),
                 ("watch", (None,)), ("watched", ()), ("news", ()),
             ):
                 self.refuses(InvalidName, person, office, call, person, *arguments)

@@ -105,7 +105,8 @@ class SeenTest(unittest.TestCase):
         some_book = book(three(*contents), rights=(("all", "bills", None, "read"),))
         for place, told in enumerate(("= bills!b1", "= bills!a1", "= bills!c1")):
             self.sees(some_book, at("bills", 0, place), ("clear", told, RING))
-        some_book = book(three(*contents), rights=(("all", "bills", None, "read"), ("bob", "bills", COLUMNS[1], "none")))
+        some_book = book(three(*contents), rights=(("all", "bills", None, "read"),
+            ("bob", "bills", COLUMNS[1], "none")))
         self.sees(some_book, at("bills", 0, 0), ("veiled", "= bills!b1"))
         self.sees(some_book, at("bills", 0, 1), HIDDEN)
         self.sees(some_book, at("bills", 0, 2), ("clear", "= bills!c1", RING))

@@ -220,9 +220,12 @@ class StepsTest(unittest.TestCase):
     def test_refuses_what_is_no_step(self):
         one = put(2, 1)
         bad = [
-            None, (), one[0], one[1], one + (None,), one[:1], list(one), (one[1], one[0]), (one,), ((2, "all", 0), one[1]),
-            (list(one[0]), one[1]), (one[0], list(one[1])), (one[0], None), (one[0], ("undo",)), (one[0], ("undo", None)),
-            (one[0], ("undo", (1, "ann", 0), None)), (one[0], ("undo", (0, "ann", 0))), (one[0], ("redo", (1, "all", 0))),
+            None, (), one[0], one[1], one + (None,), one[:1], list(one), (one[1], one[0]), (one,),
+            ((2, "all", 0), one[1]),
+            (list(one[0]), one[1]), (one[0], list(one[1])), (one[0], None), (one[0], ("undo",)),
+            (one[0], ("undo", None)),
+            (one[0], ("undo", (1, "ann", 0), None)), (one[0], ("undo", (0, "ann", 0))),
+            (one[0], ("redo", (1, "all", 0))),
             (one[0], ("Undo", (1, "ann", 0))), (one[0], ["undo", (1, "ann", 0)]), (one[0], ("undo", [1, "ann", 0])),
             (one[0], ("undo", (1, "ann", 0, 0))), (one[0], ("undo", (True, "ann", 0))), ((True, "ann", 0), one[1]),
             (one[0], ("set", *at("bills", 0, 0), None)), *ODD_THINGS,

@@ -151,7 +151,8 @@ class RecoveredTest(unittest.TestCase):
 
     def test_lengths_that_are_too_great(self):
         store = list(store_of(STEPS))
-        for head in ((255, 255, 255), (0, 255, 255), (1, 0, 0), (0, 1, 0), (0, 0, 255), (0, 0, store[2] + 1), (0, 0, 0)):
+        for head in ((255, 255, 255), (0, 255, 255), (1, 0, 0), (0, 1, 0), (0, 0, 255), (0, 0, store[2] + 1),
+            (0, 0, 0)):
             self.recovers([*head, *store[3:]], (), 0)
         at = len(store_of(STEPS[:2]))
         self.recovers(store[:at] + [255, 255, 255] + store[at + 3:], STEPS[:2], at)
@@ -165,10 +166,14 @@ class RecoveredTest(unittest.TestCase):
         told = told_of(STEPS[0])
         for wrong in (
             "", "none", "1", "()", '("set")', told[1:-1], told + " ", " " + told, told[:-1], told.replace(", ", ","),
-            told_of(STEPS[0][1]), told_of(STEPS[0][0]), told_of((STEPS[0],)), told.replace("1", "01", 1), "(" * 60 + ")" * 60,
-            told.replace('"ann"', '"all"'), told.replace('"ann"', '"Ann"'), told.replace("1", "-1", 1), told.replace("set", "sit"),
-            '((1, "ann", 0), ("undo", (0, "ann", 0)))', '((1, "ann", 0), ("undo"))', '((1000000, "ann", 0), ("sheet", "a"))',
-            told.replace('"number", 1', '"number", 2, 2'), "\n" + told, told + "\n", told.replace(" ", "\t"), "\x00" * 40, "\x7f",
+            told_of(STEPS[0][1]), told_of(STEPS[0][0]), told_of((STEPS[0],)), told.replace("1", "01", 1),
+            "(" * 60 + ")" * 60,
+            told.replace('"ann"', '"all"'), told.replace('"ann"', '"Ann"'), told.replace("1", "-1", 1),
+            told.replace("set", "sit"),
+            '((1, "ann", 0), ("undo", (0, "ann", 0)))', '((1, "ann", 0), ("undo"))',
+            '((1000000, "ann", 0), ("sheet", "a"))',
+            told.replace('"number", 1', '"number", 2, 2'), "\n" + told, told + "\n", told.replace(" ", "\t"),
+            "\x00" * 40, "\x7f",
             told.replace("ann", chr(92)), told.replace("ann", chr(37)), "\u00ff" * 10, told.replace("ann", "\u00e9"),
         ):
             self.recovers(record_of_text(wrong), (), 0)
@@ -256,7 +261,8 @@ class TidiedTest(unittest.TestCase):
         cell = ("cell", "bills", ROWS[0], COLUMNS[0])
         step = ((7, "ann", 1), ("set", *at("bills", 0, 0), ("=", ("op", "&", cell, text("a;b")))))
         self.assertEqual(recovered(stored((step,)))[0], (step,))
-        step = ((7, "ann", 1), ("set", *at("bills", 0, 0), ("=", call("sum", area("bills", 0, 0, 1, 1), number(-3, 7)))))
+        step = ((7, "ann", 1), ("set", *at("bills", 0, 0),
+            ("=", call("sum", area("bills", 0, 0, 1, 1), number(-3, 7)))))
         self.assertEqual(recovered(stored((step,)))[0], (step,))
 
 

@@ -53,7 +53,8 @@ class SummaryOfTest(unittest.TestCase):
             self.assertEqual(self.sums([down(*(lines + lines[::-1]))]), told)
 
     def test_none_is_a_key(self):
-        self.assertEqual(self.sums([down((None, n(1)), (n(0), n(2)), (None, n(4)))]), ((None, 2, n(5)), (n(0), 1, n(2))))
+        self.assertEqual(self.sums([down((None, n(1)), (n(0), n(2)), (None, n(4)))]),
+            ((None, 2, n(5)), (n(0), 1, n(2))))
         self.assertEqual(self.sums([sheet("bills", 2, 2, {})]), ((None, 2, n(0)),))
 
     def test_only_numbers_are_summed(self):

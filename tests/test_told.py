@@ -83,7 +83,8 @@ class ToldOfTest(unittest.TestCase):
             self.barred(nested(deep))
             self.barred((1, nested(deep)))
             self.barred(around(None, deep))
-        self.assertEqual(told_of((nested(49), nested(49))), "(" + told_of(nested(49)) + ", " + told_of(nested(49)) + ")")
+        self.assertEqual(told_of((nested(49), nested(49))),
+            "(" + told_of(nested(49)) + ", " + told_of(nested(49)) + ")")
         self.barred((nested(49), nested(50)))
 
     def test_length(self):
@@ -163,8 +164,10 @@ class ValueToldTest(unittest.TestCase):
 
     def test_strings(self):
         for text in (
-            '"', '"a', 'a"', 'a', '""a"', '"""', '"a""b"', "'a'", '"' + "a" * 61 + '"', '"\n"', '"\t"', '"' + chr(92) + '"',
-            '"' + chr(37) + '"', '"\x7f"', '"\u00e9"', '"a" ', ' "a"', '"' * 30000, '"a"b', "none ", " none", "None", "non", "nonee",
+            '"', '"a', 'a"', 'a', '""a"', '"""', '"a""b"', "'a'", '"' + "a" * 61 + '"', '"\n"', '"\t"',
+            '"' + chr(92) + '"',
+            '"' + chr(37) + '"', '"\x7f"', '"\u00e9"', '"a" ', ' "a"', '"' * 30000, '"a"b', "none ", " none",
+            "None", "non", "nonee",
             "nonenone", "NONE", "yes", "",
         ):
             self.barred(text)
@@ -174,8 +177,10 @@ class ValueToldTest(unittest.TestCase):
 
     def test_tuples(self):
         for text in (
-            "(", ")", "(1", "1)", "(1,)", "(1, )", "(, 1)", "(,)", "( )", "(1 , 2)", "(1,2)", "(1,  2)", "( 1)", "(1 )", "[1]",
-            "1, 2", "(1, 2", "(1, 2,)", "((1)", "(1))", "()()", "(), ()", "() ", " ()", "(1\n, 2)", "(1;2)", "(none none)",
+            "(", ")", "(1", "1)", "(1,)", "(1, )", "(, 1)", "(,)", "( )", "(1 , 2)", "(1,2)", "(1,  2)", "( 1)",
+            "(1 )", "[1]",
+            "1, 2", "(1, 2", "(1, 2,)", "((1)", "(1))", "()()", "(), ()", "() ", " ()", "(1\n, 2)", "(1;2)",
+            "(none none)",
             "(1 2)", "(1), 2", "(1, 2)(3)", "()1", '("a" "b")', "(" * 30000, ")" * 30000, "(" * 15000 + ")" * 15000,
         ):
             self.barred(text)

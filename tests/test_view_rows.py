@@ -83,7 +83,8 @@ class ViewRowsTest(unittest.TestCase):
             (NOT_THERE, []), (("op", "=", NOT_THERE, NOT_THERE), []), (("if", NOT_THERE, YES, YES), []),
             (("if", YES, YES, NOT_THERE), [0, 1]), (call("count", NOT_THERE), []), (B, []),
             (("if", ("op", "=", A, number(1)), YES, NOT_THERE), [0]), (("op", "<", call("sum", B), A), []),
-            (("if", YES, YES, cell("none", 0, 0)), [0, 1]), (("if", YES, YES, call("sum", area("bills", 0, 0, 9, 0))), [0, 1]),
+            (("if", YES, YES, cell("none", 0, 0)), [0, 1]),
+            (("if", YES, YES, call("sum", area("bills", 0, 0, 9, 0))), [0, 1]),
         ):
             self.assertEqual(self.looks([down(*lines)], condition), places)
             self.assertEqual(self.looks([down(*lines)], condition, rights=(), person="ann"), places)
@@ -92,7 +93,8 @@ class ViewRowsTest(unittest.TestCase):
         lines = ((n(1), n(2)), (n(2), n(2)), (n(3), n(2)))
         notes = sheet("notes", 1, 1, {(0, 0): n(3)})
         for condition, places in (
-            (("op", "=", A, cell("bills", 0, 1)), [1]), (("op", "<", A, call("sum", area("bills", 0, 0, 1, 0))), [0, 1]),
+            (("op", "=", A, cell("bills", 0, 1)), [1]),
+            (("op", "<", A, call("sum", area("bills", 0, 0, 1, 0))), [0, 1]),
             (("op", "=", A, cell("notes", 0, 0)), [2]), (("op", "=", A, call("most", area("bills", 0, 0, 2, 1))), [2]),
         ):
             rights = READ + (("bob", "notes", None, "read"),)
@@ -208,7 +210,8 @@ class ViewRowsTest(unittest.TestCase):
         some_book = book(down((("truth", 1),), (n(1),)), views=views, summaries=summaries)
         self.assertEqual(view_rows(some_book, "ann", "bills"), ROWS[:2])
         self.assertEqual(view_rows(some_book, "ann", "few"), ROWS[:1])
-        for name in ["fe", "fewer", "Few", "most", "all", "", None, True, 0, ("few",), ["few"], views[1], at("bills", 0, 0)]:
+        for name in ["fe", "fewer", "Few", "most", "all", "", None, True, 0, ("few",), ["few"], views[1],
+            at("bills", 0, 0)]:
             self.refuses(some_book, name, "ann", name)
         for name in [*ODD_THINGS, *NO_PERSONS]:
             self.refuses(some_book, name, "ann", name)

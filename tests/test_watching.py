@@ -11,7 +11,8 @@ from tests.test_office import NOBODY, setting
 from tests.test_steps import n
 
 RIGHTS = (("all", "bills", None, "write"), ("eve", "bills", COLUMNS[1], "none"))
-CONTENTS = {(0, 0): n(1), (0, 1): ("=", ("op", "+", cell("bills", 0, 0), number(1))), (1, 0): ("=", cell("bills", 0, 1))}
+CONTENTS = {(0, 0): n(1), (0, 1): ("=", ("op", "+", cell("bills", 0, 0), number(1))),
+    (1, 0): ("=", cell("bills", 0, 1))}
 BOOK = book(sheet("bills", 2, 2, CONTENTS), rights=RIGHTS)
 PEOPLE = ("ann", "bob", "eve")
 A1, B1, A2, B2 = [at("bills", row, column) for row in (0, 1) for column in (0, 1)]
@@ -51,7 +52,8 @@ class WatchingTest(unittest.TestCase):
         self.assertEqual(self.office.see("bob", B1), ("clear", "= bills!a1 + 1", n(2)))
         for person in PEOPLE:
             for some_cell in (A1, B1, A2, B2):
-                self.assertEqual(self.office.see(person, some_cell), seen(self.office.book_of(person), person, some_cell))
+                self.assertEqual(self.office.see(person, some_cell),
+                    seen(self.office.book_of(person), person, some_cell))
 
     def test_see_refuses(self):
         for wrong in NO_CELLS:
@@ -65,7 +67,8 @@ class WatchingTest(unittest.TestCase):
         for some_cell in (B2, A1, OTHER, B1, A1):
             self.assertIsNone(self.office.watch("ann", own(some_cell)))
         self.assertEqual(self.office.watched("ann"), (
-            (A1, ("clear", "1", n(1))), (B1, ("clear", "= bills!a1 + 1", n(2))), (B2, ("clear", "", None)), (OTHER, None),
+            (A1, ("clear", "1", n(1))), (B1, ("clear", "= bills!a1 + 1", n(2))), (B2, ("clear", "", None)),
+            (OTHER, None),
         ))
         self.assertTrue(is_plain(self.office.watched("ann")))
         self.assertEqual(self.office.watched("bob"), ())
@@ -86,7 +89,8 @@ class WatchingTest(unittest.TestCase):
         self.office.do("bob", setting(5))
         self.is_news("ann")
         self.is_news(
-            "bob", (A1, ("clear", "5", n(5))), (B1, ("clear", "= bills!a1 + 1", n(6))), (A2, ("clear", "= bills!b1", n(6)))
+            "bob", (A1, ("clear", "5", n(5))), (B1, ("clear", "= bills!a1 + 1", n(6))),
+            (A2, ("clear", "= bills!b1", n(6)))
         )
         self.office.send("bob", "eve")
         self.is_news("eve", (A1, ("clear", "5", n(5))))
@@ -182,7 +186,8 @@ class WatchingTest(unittest.TestCase):
 
     def test_later_news_over_earlier_are_what_is_watched(self):
         told = {}
-        for deed in (setting(3), ("unrow", "bills", ROWS[1]), ("set", *B1, ("text", "a")), ("uncolumn", "bills", COLUMNS[0])):
+        for deed in (setting(3), ("unrow", "bills", ROWS[1]), ("set", *B1, ("text", "a")),
+            ("uncolumn", "bills", COLUMNS[0])):
             for some_cell in (A1, B1, A2, OTHER)[:1 + len(told)]:
                 if some_cell not in told:
                     self.office.watch("ann", some_cell)
@@ -192,8 +197,10 @@ class WatchingTest(unittest.TestCase):
 
     def test_a_refused_call_changes_nothing(self):
         self.office.watch("ann", A1)
-        for wrong in [None, (), A1[:2], (*A1, 0), list(A1), ("Bills", *A1[1:]), ("bills", 1, 1), ("bills", ROWS[0], None),
-                      ("", *A1[1:]), ("bills", (True, "", 0, 0), COLUMNS[0]), ("bills", list(ROWS[0]), COLUMNS[0]), "a1",
+        for wrong in [None, (), A1[:2], (*A1, 0), list(A1), ("Bills", *A1[1:]), ("bills", 1, 1),
+            ("bills", ROWS[0], None),
+                      ("", *A1[1:]), ("bills", (True, "", 0, 0), COLUMNS[0]), ("bills", list(ROWS[0]), COLUMNS[0]),
+                      "a1",
                       ("cell", *A1), ("bills", ROWS[0], (1, "", 0, 100)), *ODD_THINGS]:
             with self.assertRaises(InvalidCell) as caught:
                 self.office.watch("ann", wrong)

@@ -18,7 +18,8 @@ from tests.model_office import ModelOffice, store_of
 
 PEOPLE = ("ann", "bob", "eve")
 CALLS = [
-    "do", "do", "do", "do", "undo", "undo", "redo", "send", "send", "send", "crash", "tidy", "watch", "watch", "news", "news",
+    "do", "do", "do", "do", "undo", "undo", "redo", "send", "send", "send", "crash", "tidy", "watch", "watch",
+    "news", "news",
     "see",
 ]
 
@@ -42,7 +43,8 @@ def shown_of(book, person):
 def some_cell(dice, book):
     """Some cell, most times one that is there."""
     cells = model.all_cells(book)
-    return dice.choice(cells) if cells and dice.random() < 0.8 else ("bills", *[chance.some_mark(dice) for _ in range(2)])
+    return dice.choice(cells) if cells and dice.random() < 0.8 else ("bills",
+        *[chance.some_mark(dice) for _ in range(2)])
 
 
 def some_call(dice, office, persons=PEOPLE):
@@ -175,7 +177,8 @@ class OfficeTest(unittest.TestCase):
             dice.shuffle(pieces)
             for piece in pieces:
                 copy.hear(piece)
-            self.assertEqual((copy.book, copy.void, copy.off), (book_of(first, steps), void_of(first, steps), off_of(first, steps)))
+            self.assertEqual((copy.book, copy.void, copy.off),
+                (book_of(first, steps), void_of(first, steps), off_of(first, steps)))
 
 
 class AlikeTest(unittest.TestCase):
